@@ -1,0 +1,193 @@
+package dfa
+
+import (
+	"math"
+	"reflect"
+	"slices"
+	"strings"
+	"testing"
+
+	"syntagm/api"
+	"syntagm/bits"
+	"syntagm/nfa"
+	"syntagm/regex"
+)
+
+func all(t *testing.T, texts ...string) []api.Regex {
+	t.Helper()
+	var l []api.Regex
+	for _, text := range texts {
+		r, err := regex.Parse(text)
+		if err != api.OK {
+			t.Fatal(text, err)
+		}
+		l = append(l, r)
+	}
+	return l
+}
+
+func built(t *testing.T, texts ...string) DFA {
+	t.Helper()
+	d, err := Build(all(t, texts...))
+	if err != api.OK {
+		t.Fatal(texts, err)
+	}
+	return d
+}
+
+func words(most int) []string {
+	l := []string{""}
+	for from := 0; len(l[from]) < most; from++ {
+		for _, b := range "abc" {
+			l = append(l, l[from]+string(b))
+		}
+	}
+	return l
+}
+
+var sets = [][]string{
+	{}, {""}, {"[]"}, {"a*", "ab"}, {"(a|b)*c", "a", "b?", "[^a]", "."}, {"(a*)*", "(ab|a)(bc|c)?", "((a|b|)c)*"}, {"a+b+|c", "()", "(|a)(|b)"}, {`[\x80-\xff]`},
+}
+
+func TestItAcceptsJustWhatTheRegexesMatch(t *testing.T) {
+	for _, texts := range sets {
+		l := all(t, texts...)
+		d := built(t, texts...)
+		m, _ := nfa.Build(l)
+		if !Valid(d) || d.Class != Classes(l) {
+			t.Error(texts)
+		}
+		for _, s := range append(words(5), "\x80", "\xff\x00", "ab\n") {
+			var want api.Set
+			for i, r := range l {
+				if regex.Match(r, s) {
+					want = bits.With(want, i)
+				}
+			}
+			if got := Run(d, s); got != want || m.Run(s) != want {
+				t.Errorf("%q: %q: %b, want %b", texts, s, got, want)
+			}
+		}
+	}
+}
+
+// together tells whether each RegexBytes has both bytes, or none of them.
+func together(l []api.Regex, a, b byte) bool {
+	for _, r := range l {
+		if regex.Has(r, a) != regex.Has(r, b) || !together(r.Kids, a, b) {
+			return false
+		}
+	}
+	return true
+}
+
+func TestClasses(t *testing.T) {
+	byHand := []api.Regex{{Kind: 9, Kids: all(t, "x")}, {Kind: api.RegexStar, Kids: all(t, "a", "b")}}
+	lists := [][]api.Regex{byHand, nil}
+	for _, texts := range sets {
+		lists = append(lists, all(t, texts...))
+	}
+	for _, l := range lists {
+		class := Classes(l)
+		next := 0
+		for a := range 256 {
+			if class[a] > next {
+				t.Fatal("not numbered by first bytes", class)
+			}
+			if class[a] == next {
+				next++
+			}
+			for b := range 256 {
+				if (class[a] == class[b]) != together(l, byte(a), byte(b)) {
+					t.Fatal(a, b, class)
+				}
+			}
+		}
+	}
+	class := Classes(all(t, "ab"))
+	if class['a'] != 1 || class['b'] != 2 || class[0] != 0 || class[255] != 0 {
+		t.Error(class)
+	}
+}
+
+func TestTooManyStates(t *testing.T) {
+	for n, want := range map[int]api.Errno{8: api.OK, 9: api.OK, 11: api.ErrMany, 15: api.ErrMany} {
+		d, err := Build(all(t, "(a|b)*a"+strings.Repeat("(a|b)", n)))
+		if err != want || err != api.OK && !reflect.DeepEqual(d, DFA{}) {
+			t.Error(n, err)
+		}
+	}
+	if d, err := Build(make([]api.Regex, 61)); err != api.ErrMany || !reflect.DeepEqual(d, DFA{}) {
+		t.Error(err)
+	}
+	if _, err := Build([]api.Regex{{Kids: make([]api.Regex, 3000)}}); err != api.ErrMany {
+		t.Error(err)
+	}
+}
+
+func TestValid(t *testing.T) {
+	good := func() DFA {
+		d := DFA{Next: [][]int{{1, -1}, {-1, 0}}, Tags: []api.Set{0, 1}}
+		d.Class['a'] = 1
+		return d
+	}
+	if !Valid(good()) {
+		t.Error("good")
+	}
+	for i, spoil := range []func(*DFA){
+		func(d *DFA) { d.Next, d.Tags = nil, nil },
+		func(d *DFA) { d.Tags = d.Tags[:1] },
+		func(d *DFA) { d.Tags = append(d.Tags, 0) },
+		func(d *DFA) { d.Next[1] = []int{-1} },
+		func(d *DFA) { d.Next[0] = []int{-1, -1, -1} },
+		func(d *DFA) { d.Next[0], d.Next[1] = nil, nil },
+		func(d *DFA) { d.Class[255] = 2 },
+		func(d *DFA) { d.Class[0] = -1 },
+		func(d *DFA) { d.Next[1][0] = 2 },
+		func(d *DFA) { d.Next[1][0] = -2 },
+	} {
+		d := good()
+		if spoil(&d); Valid(d) {
+			t.Error(i)
+		}
+	}
+	d := good()
+	if d.Next[0], d.Next[1] = []int{1, 1, 1}, []int{0, 0, 0}; !Valid(d) {
+		t.Error("a class of no byte may be")
+	}
+}
+
+func TestGo(t *testing.T) {
+	d := DFA{Next: [][]int{{1, -1}, {-5, 2}}, Tags: []api.Set{1, 2}}
+	d.Class['a'], d.Class['b'], d.Class['c'] = 1, 7, -1
+	for _, x := range []struct {
+		at   int
+		b    byte
+		want int
+	}{{0, 'x', 1}, {0, 'a', -1}, {0, 'b', -1}, {0, 'c', -1}, {1, 'x', -1}, {1, 'a', -1}, {-1, 'x', -1}, {2, 'x', -1}, {math.MaxInt, 'x', -1}, {math.MinInt, 'x', -1}} {
+		if got := Go(d, x.at, x.b); got != x.want {
+			t.Error(x, got)
+		}
+	}
+	if Run(d, "x") != 2 || Run(d, "a") != 0 || Run(d, "xx") != 0 || Run(d, "") != 1 {
+		t.Error("Run")
+	}
+	if Run(DFA{}, "") != 0 || Run(DFA{}, "a") != 0 || Run(DFA{Next: [][]int{{0}}}, "a") != 0 || Run(DFA{Tags: []api.Set{1}}, "") != 0 {
+		t.Error("of what is not valid")
+	}
+}
+
+func TestNothingIsShared(t *testing.T) {
+	l := all(t, "a(b|c)")
+	d, _ := Build(l)
+	again, _ := Build(l)
+	for _, row := range d.Next {
+		for i := range row {
+			row[i] = -1
+		}
+		_ = append(row, 9)
+	}
+	if Run(again, "ab") != 1 || !slices.Equal(again.Tags, d.Tags) {
+		t.Error("shared")
+	}
+}
