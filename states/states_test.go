@@ -1,0 +1,291 @@
+package states
+
+import (
+	"math"
+	"math/rand"
+	"reflect"
+	"slices"
+	"strconv"
+	"testing"
+
+	"syntagm/api"
+	"syntagm/inst"
+)
+
+// some is a grammar of terminals a, b, c, of sorts A, B, C, and of some productions.
+func some(rnd *rand.Rand) api.Grammar {
+	g := api.Grammar{Sorts: []string{"A", "B", "C"}, Start: rnd.Intn(3)}
+	for _, name := range []string{"a", "b", "c"} {
+		g.Terms = append(g.Terms, api.Term{Name: name, Regex: name})
+	}
+	for i := range rnd.Intn(7) {
+		p := api.Prod{Label: strconv.Itoa(i), Sort: rnd.Intn(3)}
+		for range rnd.Intn(4) {
+			p.Right = append(p.Right, api.Sym(rnd.Intn(6)-3))
+		}
+		g.Prods = append(g.Prods, p)
+	}
+	return g
+}
+
+// grammar has terminals a and b, sorts S and T, and three productions.
+func grammar() api.Grammar {
+	return api.Grammar{
+		Terms: []api.Term{{Name: "a"}, {Name: "b"}},
+		Sorts: []string{"S", "T"},
+		Prods: []api.Prod{{Label: "0", Sort: 0, Right: []api.Sym{0, -2}}, {Label: "1", Sort: 1, Right: []api.Sym{1}}, {Label: "2", Sort: 1}},
+	}
+}
+
+func TestExample(t *testing.T) {
+	g := api.Grammar{Terms: []api.Term{{Name: "a"}}, Sorts: []string{"S"}, Prods: []api.Prod{{Label: "x", Right: []api.Sym{0}}}}
+	a, err := Build(g)
+	want := Automaton{
+		Kernels: [][]Item{{{-1, 0}}, {{0, 1}}, {{-1, 1}}},
+		Next:    [][]int{{1, 2}, {-1, -1}, {-1, -1}},
+	}
+	if err != api.OK || !reflect.DeepEqual(a, want) {
+		t.Error(a, err)
+	}
+}
+
+func TestBehind(t *testing.T) {
+	g := grammar()
+	for _, x := range []struct {
+		item Item
+		s    api.Sym
+		ok   bool
+	}{
+		{Item{-1, 0}, -1, true}, {Item{-1, 1}, 0, false}, {Item{0, 0}, 0, true}, {Item{0, 1}, -2, true}, {Item{0, 2}, 0, false}, {Item{2, 0}, 0, false},
+		{Item{0, 3}, 0, false}, {Item{0, -1}, 0, false}, {Item{3, 0}, 0, false}, {Item{-2, 0}, 0, false}, {Item{-1, -1}, 0, false}, {Item{math.MaxInt, math.MinInt}, 0, false},
+	} {
+		if s, ok := Behind(g, x.item); s != x.s || ok != x.ok {
+			t.Error(x, s, ok)
+		}
+	}
+}
+
+func TestClose(t *testing.T) {
+	g := grammar()
+	for _, x := range []struct{ l, want []Item }{
+		{nil, nil},
+		{[]Item{{-1, 0}}, []Item{{-1, 0}, {0, 0}}},
+		{[]Item{{0, 1}}, []Item{{0, 1}, {1, 0}, {2, 0}}},
+		{[]Item{{2, 0}, {0, 1}, {2, 0}, {-1, 1}}, []Item{{-1, 1}, {0, 1}, {1, 0}, {2, 0}}},
+		{[]Item{{0, 9}, {-2, 0}, {3, 0}, {1, -1}}, nil},
+		{[]Item{{0, 9}, {1, 1}}, []Item{{1, 1}}},
+	} {
+		if got := Close(g, x.l); !slices.Equal(got, x.want) {
+			t.Error(x, got)
+		}
+	}
+}
+
+func TestStep(t *testing.T) {
+	g := grammar()
+	for _, x := range []struct {
+		l    []Item
+		s    api.Sym
+		want []Item
+	}{
+		{[]Item{{-1, 0}}, 0, []Item{{0, 1}}},
+		{[]Item{{-1, 0}}, -1, []Item{{-1, 1}}},
+		{[]Item{{-1, 0}}, 1, nil},
+		{[]Item{{0, 1}, {0, 1}}, -2, []Item{{0, 2}}},
+		{[]Item{{0, 1}}, 1, []Item{{1, 1}}},
+		{[]Item{{0, 1}}, math.MinInt, nil},
+		{[]Item{{0, 2}}, 0, nil},
+		{[]Item{{7, 0}}, 0, nil},
+	} {
+		if got := Step(g, x.l, x.s); !slices.Equal(got, x.want) {
+			t.Error(x, got)
+		}
+	}
+}
+
+func TestNotValid(t *testing.T) {
+	bad := grammar()
+	bad.Start = 2
+	for _, g := range []api.Grammar{bad, {}} {
+		if a, err := Build(g); err != api.ErrArg || !reflect.DeepEqual(a, Automaton{}) {
+			t.Error(a, err)
+		}
+		s, ok := Behind(g, Item{0, 0})
+		if s != 0 || ok || len(Close(g, []Item{{-1, 0}, {0, 0}})) != 0 || len(Step(g, []Item{{0, 0}}, 0)) != 0 {
+			t.Error("there is an item")
+		}
+	}
+	if Go(api.Grammar{}, Automaton{Next: [][]int{{0}}}, 0, 0) != -1 || Go(grammar(), Automaton{}, 0, 0) != -1 {
+		t.Error("there is a state")
+	}
+}
+
+// closedBy adds items one by one, till nothing is new.
+func closedBy(g api.Grammar, l []Item) []Item {
+	all := map[Item]bool{}
+	for _, x := range l {
+		all[x] = true
+	}
+	for size := -1; size != len(all); {
+		size = len(all)
+		for x := range all {
+			s, ok := Behind(g, x)
+			for i, p := range g.Prods {
+				if ok && s < 0 && p.Sort == int(-1-s) {
+					l = append(l, Item{i, 0})
+				}
+			}
+		}
+		for _, x := range l {
+			all[x] = true
+		}
+	}
+	var out []Item
+	for p := -1; p < len(g.Prods); p++ {
+		for dot := range 5 {
+			if all[Item{p, dot}] {
+				out = append(out, Item{p, dot})
+			}
+		}
+	}
+	return out
+}
+
+func symbols(g api.Grammar) []api.Sym {
+	var l []api.Sym
+	for t := range g.Terms {
+		l = append(l, api.Sym(t))
+	}
+	for s := range g.Sorts {
+		l = append(l, api.Sym(-1-s))
+	}
+	return l
+}
+
+func TestBuild(t *testing.T) {
+	rnd := rand.New(rand.NewSource(1))
+	for range 1000 {
+		g := some(rnd)
+		before := g.Start
+		a, err := Build(g)
+		if err != api.OK || len(a.Next) != len(a.Kernels) || g.Start != before {
+			t.Fatal(g, err)
+		}
+		come := 1 // states that are come to, in order
+		for at, kernel := range a.Kernels {
+			all := closedBy(g, kernel)
+			if !slices.Equal(Close(g, kernel), all) || len(a.Next[at]) != 6 {
+				t.Fatal(g, kernel)
+			}
+			for place, s := range symbols(g) {
+				var step []Item
+				for _, x := range all {
+					if y, ok := Behind(g, x); ok && y == s {
+						step = append(step, Item{x.Prod, x.Dot + 1})
+					}
+				}
+				to := a.Next[at][place]
+				if Go(g, a, at, s) != to || !slices.Equal(Step(g, kernel, s), step) || (to == -1) != (len(step) == 0) {
+					t.Fatal(g, at, s)
+				}
+				if to == -1 {
+					continue
+				}
+				if !slices.Equal(a.Kernels[to], step) || to > come {
+					t.Fatal(g, at, s)
+				}
+				if to == come {
+					come++
+				}
+				// Each state is come to by the symbol that is ahead of its dots.
+				for _, x := range a.Kernels[to] {
+					if y, ok := Behind(g, Item{x.Prod, x.Dot - 1}); !ok || y != s {
+						t.Fatal(g, to, s)
+					}
+				}
+			}
+		}
+		if come != len(a.Kernels) {
+			t.Fatal("a state that is not come to")
+		}
+		for i, k := range a.Kernels {
+			for _, other := range a.Kernels[:i] {
+				if slices.Equal(k, other) {
+					t.Fatal("two states of one kernel")
+				}
+			}
+		}
+	}
+}
+
+func TestGo(t *testing.T) {
+	g := grammar()
+	a, _ := Build(g)
+	for _, x := range []struct {
+		at int
+		s  api.Sym
+	}{{-1, 0}, {len(a.Next), 0}, {math.MaxInt, 0}, {0, 2}, {0, -3}, {0, math.MinInt}, {0, math.MaxInt}, {1, 0}} {
+		if got := Go(g, a, x.at, x.s); got != -1 {
+			t.Error(x, got)
+		}
+	}
+	if Go(g, a, 0, 0) != 1 || Go(g, a, 0, -1) != 2 {
+		t.Error(a)
+	}
+	a.Next[0] = []int{-7, 99}
+	for s := api.Sym(-2); s < 2; s++ {
+		if got := Go(g, a, 0, s); got != -1 {
+			t.Error(s, got)
+		}
+	}
+}
+
+// wide has so many states as there are sets of some places: each sort's production reads some of two terminals, in an order.
+func wide(n int) api.Grammar {
+	g := api.Grammar{Terms: []api.Term{{Name: "a"}, {Name: "b"}}}
+	add := func(sort int, right ...api.Sym) {
+		g.Prods = append(g.Prods, api.Prod{Label: strconv.Itoa(100 + len(g.Prods)), Sort: sort, Right: right})
+	}
+	sort := func(i int) api.Sym { return api.Sym(-1 - i) }
+	for i := range n {
+		g.Sorts = append(g.Sorts, strconv.Itoa(100+i))
+		if i == 0 {
+			add(0, 0, sort(0))
+			add(0, 1, sort(0))
+			add(0, 0, sort(1))
+			continue
+		}
+		if i+1 < n {
+			add(i, 0, sort(i+1))
+			add(i, 1, sort(i+1))
+		} else {
+			add(i)
+		}
+	}
+	return g
+}
+
+func TestTooMany(t *testing.T) {
+	a, err := Build(wide(8))
+	if err != api.OK || len(a.Next) < 128 {
+		t.Error(err, len(a.Next))
+	}
+	if a, err := Build(wide(14)); err != api.ErrMany || !reflect.DeepEqual(a, Automaton{}) {
+		t.Error(err)
+	}
+	if !inst.Valid(wide(14)) {
+		t.Error("it is valid")
+	}
+}
+
+func TestArgumentsAreLeft(t *testing.T) {
+	g := grammar()
+	l := []Item{{1, 0}, {0, 1}, {1, 0}}
+	Close(g, l)[0] = Item{9, 9}
+	Step(g, l, 1)
+	a, _ := Build(g)
+	a.Next[0][0] = 9
+	if !slices.Equal(l, []Item{{1, 0}, {0, 1}, {1, 0}}) || !reflect.DeepEqual(g, grammar()) {
+		t.Error("changed")
+	}
+}
