@@ -112,6 +112,8 @@ func TestErrors(t *testing.T) {
 	clash.Terms[0].Class = 7
 	self := with(mod("self"), "t", "t")
 	self.Terms[1].Class = 7
+	selfAndNone := with(mod("selfAndNone", "nowhere"), "t", "t")
+	selfAndNone.Terms[1].Class = 7
 	noStart := with(mod("noStart"), "t")
 	noStart.Start = ""
 	absent := [2]string{"none", "x"}
@@ -125,7 +127,7 @@ func TestErrors(t *testing.T) {
 		renamed(mod("noneThenAbsent", "nowhere", "a"), 1, absent),
 		mod("clashes", "a", "clash"),
 		mod("noneAheadOfClash", "a", "clash", "nowhere"),
-		mod("importAheadOfSelf", "nowhere"),
+		selfAndNone,
 		with(mod("ownClash", "clash"), "t"),
 		changed(mod("clashThenAbsent", "a", "clash"), api.Change{Label: "none"}),
 		changed(with(mod("change"), "t"), api.Change{Label: "none"}),
@@ -137,7 +139,7 @@ func TestErrors(t *testing.T) {
 		"a": api.OK, "nowhere": api.ErrNone, "": api.ErrNone, "one": api.ErrCycle, "two": api.ErrCycle, "three": api.ErrCycle, "none": api.ErrNone,
 		"cycleThenNone": api.ErrCycle, "noneThenCycle": api.ErrNone, "absentThenNone": api.ErrAbsent, "noneThenAbsent": api.ErrNone,
 		"clashes": api.ErrClash, "noneAheadOfClash": api.ErrNone, "self": api.ErrClash, "ownClash": api.ErrClash, "clashThenAbsent": api.ErrClash,
-		"change": api.ErrAbsent, "changeThenStart": api.ErrAbsent, "noStart": api.ErrStart, "twice": api.ErrClash, "startOfAnother": api.OK, "importAheadOfSelf": api.ErrNone,
+		"change": api.ErrAbsent, "changeThenStart": api.ErrAbsent, "noStart": api.ErrStart, "twice": api.ErrClash, "startOfAnother": api.OK, "selfAndNone": api.ErrNone,
 	} {
 		x, start, err := Elab(l, root)
 		if err != want || err != api.OK && (start != "" || !reflect.DeepEqual(x, rename.Items{})) {
