@@ -125,6 +125,17 @@ func TestTooManyStates(t *testing.T) {
 	}
 }
 
+func TestJustSoManyStates(t *testing.T) {
+	row := api.Regex{Kind: api.RegexCat, Kids: slices.Repeat(all(t, "a"), 1999)}
+	if d, err := Build([]api.Regex{row}); err != api.OK || len(d.Next) != 2000 {
+		t.Error(err, len(d.Next))
+	}
+	row.Kids = append(row.Kids, row.Kids[0])
+	if _, err := Build([]api.Regex{row}); err != api.ErrMany {
+		t.Error(err)
+	}
+}
+
 func TestValid(t *testing.T) {
 	good := func() DFA {
 		d := DFA{Next: [][]int{{1, -1}, {-1, 0}}, Tags: []api.Set{0, 1}}
@@ -158,16 +169,20 @@ func TestValid(t *testing.T) {
 }
 
 func TestGo(t *testing.T) {
-	d := DFA{Next: [][]int{{1, -1}, {-5, 2}}, Tags: []api.Set{1, 2}}
-	d.Class['a'], d.Class['b'], d.Class['c'] = 1, 7, -1
+	d := DFA{Next: [][]int{{1, -1}, {-5, 2}, {0, 2}}, Tags: []api.Set{1, 2}}
+	d.Class['a'], d.Class['b'], d.Class['c'], d.Class['d'] = 1, 7, -1, 2
 	for _, x := range []struct {
 		at   int
 		b    byte
 		want int
-	}{{0, 'x', 1}, {0, 'a', -1}, {0, 'b', -1}, {0, 'c', -1}, {1, 'x', -1}, {1, 'a', -1}, {-1, 'x', -1}, {2, 'x', -1}, {math.MaxInt, 'x', -1}, {math.MinInt, 'x', -1}} {
+	}{{0, 'x', 1}, {0, 'a', -1}, {0, 'b', -1}, {0, 'c', -1}, {1, 'x', -1}, {0, 'd', -1}, {1, 'a', 2}, {2, 'x', 0}, {2, 'a', 2}, {-1, 'x', -1}, {3, 'x', -1}, {math.MaxInt, 'x', -1}, {math.MinInt, 'x', -1}} {
 		if got := Go(d, x.at, x.b); got != x.want {
 			t.Error(x, got)
 		}
+	}
+	d.Next = d.Next[:2]
+	if got := Go(d, 1, 'a'); got != -1 {
+		t.Error("a state beyond the states", got)
 	}
 	if Run(d, "x") != 2 || Run(d, "a") != 0 || Run(d, "xx") != 0 || Run(d, "") != 1 {
 		t.Error("Run")

@@ -311,6 +311,7 @@ func TestValid(t *testing.T) {
 		func(g *api.Grammar) { g.Prods[0].Sort = 2 },
 		func(g *api.Grammar) { g.Prods[0].Sort = -1 },
 		func(g *api.Grammar) { g.Prods[0].Right[0] = 2 },
+		func(g *api.Grammar) { g.Terms, g.Over, g.Prods[0].Right = nil, nil, []api.Sym{0} },
 		func(g *api.Grammar) { g.Prods[0].Right[0] = -3 },
 		func(g *api.Grammar) { g.Prods[0].Right[0] = math.MinInt },
 		func(g *api.Grammar) { g.Prods[0].Right[0] = math.MaxInt },

@@ -199,7 +199,7 @@ func TestClashesAreAllPairs(t *testing.T) {
 func TestLayouts(t *testing.T) {
 	var g api.Grammar
 	for i := range 70 {
-		g.Terms = append(g.Terms, api.Term{Layout: i%2 == 1})
+		g.Terms = append(g.Terms, api.Term{Layout: i%2 == 1 || i == 60})
 	}
 	var want api.Set
 	for i := 1; i < 60; i += 2 {

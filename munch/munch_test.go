@@ -42,7 +42,7 @@ func TestExample(t *testing.T) {
 	}
 }
 
-var lists = [][]string{{"[ab]+", "ab"}, {"a*b|a", "b*"}, {"a", "ab", "abc", "c"}, {"", "a*"}, {"[]"}, {}}
+var lists = [][]string{{"[ab]+", "ab"}, {"a*b|a", "b*"}, {"a", "ab", "abc", "c"}, {"", "a*"}, {"(ab?)*"}, {"[]"}, {}}
 
 func TestNoLongerPieceMayBe(t *testing.T) {
 	rnd := rand.New(rand.NewSource(1))

@@ -88,6 +88,17 @@ func TestLayout(t *testing.T) {
 	}
 }
 
+func TestTheFirstTerminalIsLayout(t *testing.T) {
+	p := made(t, api.Grammar{
+		Terms: []api.Term{{Name: "a", Regex: " ", Layout: true}, {Name: "b", Regex: "b"}},
+		Sorts: []string{"S"},
+		Prods: []api.Prod{{Label: "x", Right: []api.Sym{1, 1}}},
+	})
+	if r := p.Parse(" b  b"); !r.OK || !Same(r.Trees[0], node(0, 1, 5, leaf(1, 1, 2), leaf(1, 4, 5))) {
+		t.Error(r)
+	}
+}
+
 func TestWrong(t *testing.T) {
 	// A = a B b; B = c, B = nothing.
 	p := made(t, grammar(prod(0, a, B, b), prod(1, c), prod(1)))
@@ -281,6 +292,9 @@ func TestValid(t *testing.T) {
 	bad.Start = 9
 	if Valid(bad, good()) || Valid(api.Grammar{}, leaf(0, 0, 1)) {
 		t.Error("of no grammar")
+	}
+	if Valid(g, leaf(4, 0, 1)) || Valid(g, leaf(-1, 0, 1)) || !Valid(g, leaf(3, 0, 1)) {
+		t.Error("of no terminal")
 	}
 	for i, spoil := range []func(*api.Node){
 		func(n *api.Node) { n.Prod = -2 },

@@ -210,6 +210,8 @@ func TestParseBuilds(t *testing.T) {
 		`\n\t\r\s`:  of(cat, one("\n"), one("\t"), one("\r"), one(" ")),
 		`\x00`:      one("\x00"),
 		`\xaf`:      one("\xaf"),
+		`\x09`:      one("\t"),
+		`\xf0`:      one("\xf0"),
 		`\_`:        one("_"),
 		`\*`:        one("*"),
 		"\\\xe9":    one("\xe9"),
@@ -242,7 +244,7 @@ func sevenBits() []byte {
 }
 
 func TestParseFails(t *testing.T) {
-	for _, text := range []string{"*", "+a", "?", "a|*", "(", ")", "a)", "(a", "(a))", "]", "a]", "[", "[a", "[^", "[a-", "[a-]", "[-a]", "[a-b-c]", "[b-a]", `\`, `[\`, `\a`, `\A`, `\0`, `\z`, `\x`, `\x4`, `\x4g`, `\xAB`, `[\x4]`, `[\q]`, "()(", "(*)", strings.Repeat("(", 200)} {
+	for _, text := range []string{"*", "+a", "?", "a|*", "(", ")", "a)", "(a", "(a))", "]", "a]", "[", "[a", "[^", "[a-", "[a-]", "[-a]", "[a-b-c]", "[b-a]", `\`, `[\`, `\a`, `\A`, `\0`, `\z`, `\Z`, `\9`, `\x`, `\x4`, `\x4g`, `\xAB`, `[\x4]`, `[\q]`, "()(", "(*)", strings.Repeat("(", 200)} {
 		if r, err := Parse(text); err != api.ErrForm || !reflect.DeepEqual(r, api.Regex{}) {
 			t.Errorf("Parse(%q) = %s, %v", text, Show(r), err)
 		}

@@ -91,6 +91,13 @@ func TestOf(t *testing.T) {
 	}
 }
 
+func TestNoTerminals(t *testing.T) {
+	g := api.Grammar{Sorts: []string{"S"}, Prods: []api.Prod{{Label: "x"}}}
+	if Of(g, []api.Sym{A, 0, A}, 1) != 0 || Of(g, []api.Sym{A}, 1) != 1 || First(g)[0] != 0 || !Empty(g)[0] {
+		t.Error("there is no terminal")
+	}
+}
+
 func TestNotValid(t *testing.T) {
 	g := grammar(3, prod(0, a))
 	for _, g := range []api.Grammar{g, {}} {

@@ -76,11 +76,17 @@ func TestSpansAreTheTerminals(t *testing.T) {
 func TestClass(t *testing.T) {
 	g := grammar()
 	g.Terms[1].Class, g.Prods[1].Class = -4, -4
+	g.Terms[3].Class, g.Prods[2].Class = 1, 1
+	if h := grammar(); Class(h, api.Node{Prod: -1}, 2) != 2 {
+		t.Error("a class of 0 is none")
+	} else if h.Terms[0].Class = 6; Class(h, api.Node{Prod: -1}, 2) != 6 {
+		t.Error("the first terminal has one")
+	}
 	for _, x := range []struct {
 		n    api.Node
 		want int
 	}{
-		{api.Node{Prod: -1, Term: 2}, 7}, {api.Node{Prod: -1, Term: 0}, 9}, {api.Node{Prod: -1, Term: 1}, 9}, {api.Node{Prod: -1, Term: 5}, 9}, {api.Node{Prod: -1, Term: -1}, 9},
+		{api.Node{Prod: -1, Term: 2}, 7}, {api.Node{Prod: -1, Term: 0}, 9}, {api.Node{Prod: -1, Term: 1}, 9}, {api.Node{Prod: -1, Term: 3}, 1}, {api.Node{Prod: 2}, 1}, {api.Node{Prod: -1, Term: 5}, 9}, {api.Node{Prod: -1, Term: -1}, 9},
 		{api.Node{Prod: 0, Term: 2}, 3}, {api.Node{Prod: 1}, 9}, {api.Node{Prod: 3}, 9}, {api.Node{Prod: -2, Term: 2}, 9}, {api.Node{Prod: math.MaxInt}, 9}, {api.Node{Prod: math.MinInt}, 9},
 	} {
 		if got := Class(g, x.n, 9); got != x.want {

@@ -232,7 +232,11 @@ func TestGo(t *testing.T) {
 	if Go(g, a, 0, 0) != 1 || Go(g, a, 0, -1) != 2 {
 		t.Error(a)
 	}
-	a.Next[0] = []int{-7, 99}
+	a.Next[0] = []int{0, 0, 0, 0, 0, 0}
+	if Go(g, a, 0, 1) != 0 || Go(g, a, 0, -3) != -1 || Go(g, a, 0, 2) != -1 {
+		t.Error("a row may be longer than there are symbols, and go anywhere")
+	}
+	a.Next[0] = []int{-7, 99, len(a.Next), -1}
 	for s := api.Sym(-2); s < 2; s++ {
 		if got := Go(g, a, 0, s); got != -1 {
 			t.Error(s, got)
@@ -275,6 +279,38 @@ func TestTooMany(t *testing.T) {
 	}
 	if !inst.Valid(wide(14)) {
 		t.Error("it is valid")
+	}
+}
+
+// longer has so many states more: for each symbol of rows of 12 that have the first one alone in common.
+func longer(g api.Grammar, more int) api.Grammar {
+	c := len(g.Terms)
+	for i := range 50 {
+		g.Terms = append(g.Terms, api.Term{Name: "c" + strconv.Itoa(100+i)})
+	}
+	for i := 0; more > 0; i++ {
+		if i%50 == 0 {
+			more--
+		}
+		right := []api.Sym{api.Sym(c + i/50), api.Sym(c + i%50)}
+		right = append(right, slices.Repeat(right[:1], 10)...)[:1+min(more, 11)]
+		g.Prods = append(g.Prods, api.Prod{Label: strconv.Itoa(200 + i), Right: right})
+		more -= len(right) - 1
+	}
+	return g
+}
+
+func TestJustSoManyStates(t *testing.T) {
+	base, err := Build(wide(11))
+	if err != api.OK {
+		t.Fatal(err)
+	}
+	left := api.MaxStates - len(base.Next)
+	if a, err := Build(longer(wide(11), left)); err != api.OK || len(a.Next) != api.MaxStates {
+		t.Error(err, left)
+	}
+	if _, err := Build(longer(wide(11), left+1)); err != api.ErrMany {
+		t.Error(err, left)
 	}
 }
 

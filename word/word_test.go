@@ -93,7 +93,7 @@ func TestWordsFail(t *testing.T) {
 }
 
 func TestIsName(t *testing.T) {
-	for _, s := range []string{"a", "_", "Z9_", "module", strings.Repeat("x", 32)} {
+	for _, s := range []string{"a", "_", "z", "A", "Z9_", "azAZ09", "module", strings.Repeat("x", 32)} {
 		if !IsName(s) {
 			t.Error(s)
 		}
