@@ -2,9 +2,11 @@
 package promises
 
 import (
+	"cmp"
 	"math"
 	"math/rand"
 	"reflect"
+	"slices"
 	"strconv"
 	"testing"
 
@@ -278,6 +280,42 @@ func spoil(v reflect.Value) {
 	}
 }
 
+// stretch is where a list's memory lies.
+type stretch struct{ from, to uintptr }
+
+// memory tells the stretches of all lists in a value.
+func memory(l []stretch, v reflect.Value) []stretch {
+	switch v.Kind() {
+	case reflect.Slice:
+		if v.Cap() > 0 && v.Type().Elem().Size() > 0 {
+			l = append(l, stretch{v.Pointer(), v.Pointer() + uintptr(v.Cap())*v.Type().Elem().Size()})
+		}
+		for i := range v.Len() {
+			l = memory(l, v.Index(i))
+		}
+	case reflect.Struct:
+		for i := range v.NumField() {
+			l = memory(l, v.Field(i))
+		}
+	}
+	return l
+}
+
+// apart tells whether no two lists of some values share memory.
+func apart(all []reflect.Value) bool {
+	var l []stretch
+	for _, v := range all {
+		l = memory(l, v)
+	}
+	slices.SortFunc(l, func(a, b stretch) int { return cmp.Compare(a.from, b.from) })
+	for i := 1; i < len(l); i++ {
+		if l[i].from < l[i-1].to {
+			return false
+		}
+	}
+	return true
+}
+
 func TestAnyArguments(t *testing.T) {
 	m := maker{rand.New(rand.NewSource(1))}
 	for name, f := range calls() {
@@ -308,6 +346,9 @@ func TestAnyArguments(t *testing.T) {
 				if !alike(in[i], again[i]) {
 					t.Fatalf("%s changes an argument: %v was %v", name, in[i], again[i])
 				}
+			}
+			if !apart(first) {
+				t.Fatalf("%s answers lists that share memory: %v", name, first)
 			}
 			for _, v := range first {
 				spoil(v)
