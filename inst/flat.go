@@ -33,7 +33,10 @@ type maker struct {
 }
 
 // Flat is the flat grammar of what modules declare.
-func Flat(x rename.Items, start string) (g api.Grammar, err api.Errno) {
+func Flat(x rename.Items, start string) (api.Grammar, api.Errno) { return flat(x, start) }
+
+// flat is Flat: who fails while it is made panics.
+func flat(x rename.Items, start string) (g api.Grammar, err api.Errno) {
 	defer func() {
 		if r := recover(); r != nil {
 			f, ok := r.(fault)

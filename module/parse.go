@@ -21,7 +21,7 @@ type reader struct {
 }
 
 // Parse is the module that a text is.
-func Parse(text string) (m api.Module, err api.Errno, at int) {
+func Parse(text string) (api.Module, api.Errno, int) {
 	words, err, at := word.Words(text)
 	if err != api.OK {
 		return api.Module{}, err, at
@@ -29,6 +29,12 @@ func Parse(text string) (m api.Module, err api.Errno, at int) {
 	if len(words) == 0 {
 		return api.Module{}, api.ErrForm, len(text)
 	}
+	r := &reader{words: words}
+	return r.whole()
+}
+
+// whole reads all lines, or tells what is wrong, and where.
+func (r *reader) whole() (m api.Module, err api.Errno, at int) {
 	defer func() {
 		if x := recover(); x != nil {
 			f, ok := x.(fault)
@@ -38,7 +44,6 @@ func Parse(text string) (m api.Module, err api.Errno, at int) {
 			m, err, at = api.Module{}, f.err, f.at
 		}
 	}()
-	r := &reader{words: words}
 	r.first()
 	for len(r.words) > 0 {
 		r.line()

@@ -15,10 +15,16 @@ type reader struct {
 }
 
 // Parse is the regex that a text is.
-func Parse(text string) (r api.Regex, err api.Errno) {
+func Parse(text string) (api.Regex, api.Errno) {
 	if len(text) > api.MaxRegex {
 		return api.Regex{}, api.ErrMany
 	}
+	in := &reader{text: text}
+	return in.whole()
+}
+
+// whole reads the whole text, or tells why it can't be read.
+func (in *reader) whole() (r api.Regex, err api.Errno) {
 	defer func() {
 		if x := recover(); x != nil {
 			f, ok := x.(fault)
@@ -28,9 +34,8 @@ func Parse(text string) (r api.Regex, err api.Errno) {
 			r, err = api.Regex{}, f.err
 		}
 	}()
-	in := &reader{text: text}
 	r = in.ways()
-	if in.at < len(text) {
+	if in.at < len(in.text) {
 		in.fail(api.ErrForm)
 	}
 	return in.sized(r), api.OK

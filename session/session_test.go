@@ -338,3 +338,20 @@ func TestTwoSessionsKnowNothingOfEachOther(t *testing.T) {
 		t.Error("shared")
 	}
 }
+
+func TestWhatTheReadMeTells(t *testing.T) {
+	s := New()
+	does(t, s,
+		Op{Kind: Load, Text: "module list\nterm a /a/\nterm ws /\\s+/ layout\nrule more S = a S ; 1\nrule none S =\nstart S"},
+		Op{Kind: Open, Name: "doc", Root: "list", Text: "a a"})
+	if a := s.Do(Op{Kind: Tree, Name: "doc"}); a.Err != api.OK || len(parse.Leaves(a.Trees[0])) != 2 {
+		t.Error(a)
+	}
+	if a := s.Do(Op{Kind: Spans, Name: "doc"}); !slices.Equal(a.Spans, []api.Span{{From: 0, To: 1, Class: 1}, {From: 2, To: 3, Class: 1}}) {
+		t.Error(a)
+	}
+	does(t, s, Op{Kind: Edit, Name: "doc", From: 3, To: 3, Text: " a"})
+	if a := s.Do(Op{Kind: Tree, Name: "doc"}); a.Err != api.OK || len(parse.Leaves(a.Trees[0])) != 3 {
+		t.Error(a)
+	}
+}
