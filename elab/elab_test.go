@@ -1,4 +1,4 @@
-package elab
+package elab_test
 
 import (
 	"math/rand"
@@ -8,6 +8,7 @@ import (
 	"testing"
 
 	"syntagm/api"
+	"syntagm/elab"
 	"syntagm/rename"
 )
 
@@ -38,13 +39,13 @@ func terms(x rename.Items) []string {
 
 func TestExample(t *testing.T) {
 	a, b := with(mod("a"), "t"), with(mod("b", "a"), "v")
-	x, start, err := Elab([]api.Module{a, b}, "b")
+	x, start, err := elab.Elab([]api.Module{a, b}, "b")
 	if err != api.OK || start != "S" || !slices.Equal(terms(x), []string{"t", "v"}) {
 		t.Error(x, start, err)
 	}
 	b.Imports[0].Names = [][2]string{{"t", "u"}}
 	b.Terms = nil
-	if x, _, err := Elab([]api.Module{a, b}, "b"); err != api.OK || !slices.Equal(terms(x), []string{"u"}) {
+	if x, _, err := elab.Elab([]api.Module{a, b}, "b"); err != api.OK || !slices.Equal(terms(x), []string{"u"}) {
 		t.Error(x, err)
 	}
 }
@@ -57,7 +58,7 @@ func TestWhatAModuleIs(t *testing.T) {
 	b.Imports[1].Names = [][2]string{{"t", "u"}, {"r", "s"}, {"q", "p"}, {"S", "T"}}
 	b.Rules = []api.Rule{{Label: "own", Sort: sym("S"), Right: []api.Name{sym("T")}}}
 	b.Changes = []api.Change{{Label: "own", Right: []api.Name{sym("u")}}, {Kind: api.ChangeRemove, Label: "q"}}
-	got, start, err := Elab([]api.Module{b, a}, "b")
+	got, start, err := elab.Elab([]api.Module{b, a}, "b")
 	want := rename.Items{
 		Terms: []api.Term{{Name: "t", Regex: "t"}, {Name: "u", Regex: "t"}},
 		Over:  [][2]string{{"t", "t"}, {"u", "u"}},
@@ -75,14 +76,14 @@ func TestWhatAModuleIs(t *testing.T) {
 
 func TestTheLastOneCounts(t *testing.T) {
 	l := []api.Module{with(mod("a"), "t"), mod("b", "a"), with(mod("a"), "u")}
-	if x, _, err := Elab(l, "b"); err != api.OK || !slices.Equal(terms(x), []string{"u"}) {
+	if x, _, err := elab.Elab(l, "b"); err != api.OK || !slices.Equal(terms(x), []string{"u"}) {
 		t.Error(x, err)
 	}
 }
 
 func TestImportedTwice(t *testing.T) {
 	l := []api.Module{with(mod("a"), "t"), mod("b", "a", "a"), mod("c", "a", "b"), mod("d", "b", "c", "a")}
-	if x, _, err := Elab(l, "d"); err != api.OK || !slices.Equal(terms(x), []string{"t"}) {
+	if x, _, err := elab.Elab(l, "d"); err != api.OK || !slices.Equal(terms(x), []string{"t"}) {
 		t.Error(x, err)
 	}
 	// Each module is told once, or this would not end.
@@ -91,10 +92,10 @@ func TestImportedTwice(t *testing.T) {
 		before := "m" + strconv.Itoa(i)
 		l = append(l, mod("m"+strconv.Itoa(i+1), before, before))
 	}
-	if x, _, err := Elab(l, "m200"); err != api.OK || len(x.Terms) != 1 {
+	if x, _, err := elab.Elab(l, "m200"); err != api.OK || len(x.Terms) != 1 {
 		t.Error(x, err)
 	}
-	if names, err := Order(l, "m200"); err != api.OK || len(names) != 201 {
+	if names, err := elab.Order(l, "m200"); err != api.OK || len(names) != 201 {
 		t.Error(names, err)
 	}
 }
@@ -141,7 +142,7 @@ func TestErrors(t *testing.T) {
 		"clashes": api.ErrClash, "noneAheadOfClash": api.ErrNone, "self": api.ErrClash, "ownClash": api.ErrClash, "clashThenAbsent": api.ErrClash,
 		"change": api.ErrAbsent, "changeThenStart": api.ErrAbsent, "noStart": api.ErrStart, "twice": api.ErrClash, "startOfAnother": api.OK, "selfAndNone": api.ErrNone,
 	} {
-		x, start, err := Elab(l, root)
+		x, start, err := elab.Elab(l, root)
 		if err != want || err != api.OK && (start != "" || !reflect.DeepEqual(x, rename.Items{})) {
 			t.Error(root, x, start, err)
 		}
@@ -150,7 +151,7 @@ func TestErrors(t *testing.T) {
 		"nowhere": api.ErrNone, "one": api.ErrCycle, "two": api.ErrCycle, "none": api.ErrNone, "cycleThenNone": api.ErrCycle, "noneThenCycle": api.ErrNone,
 		"absentThenNone": api.ErrNone, "clashes": api.OK, "change": api.OK, "noStart": api.OK, "self": api.OK,
 	} {
-		names, err := Order(l, root)
+		names, err := elab.Order(l, root)
 		if err != want || (err == api.OK) != (len(names) > 0) {
 			t.Error(root, names, err)
 		}
@@ -159,10 +160,10 @@ func TestErrors(t *testing.T) {
 
 func TestOrder(t *testing.T) {
 	l := []api.Module{mod("d", "c", "b"), mod("c", "a"), mod("b", "a", "e"), mod("a"), mod("e"), mod("f", "d")}
-	if names, err := Order(l, "d"); err != api.OK || !slices.Equal(names, []string{"a", "c", "e", "b", "d"}) {
+	if names, err := elab.Order(l, "d"); err != api.OK || !slices.Equal(names, []string{"a", "c", "e", "b", "d"}) {
 		t.Error(names, err)
 	}
-	if names, err := Order(l, "a"); err != api.OK || !slices.Equal(names, []string{"a"}) {
+	if names, err := elab.Order(l, "a"); err != api.OK || !slices.Equal(names, []string{"a"}) {
 		t.Error(names, err)
 	}
 }
@@ -187,12 +188,12 @@ func TestInWhateverOrderModulesCome(t *testing.T) {
 			l = append(l, m)
 		}
 		for i := range l {
-			x, start, err := Elab(l, l[i].Name)
-			names, orderErr := Order(l, l[i].Name)
+			x, start, err := elab.Elab(l, l[i].Name)
+			names, orderErr := elab.Order(l, l[i].Name)
 			other := slices.Clone(l)
 			rnd.Shuffle(len(other), func(i, j int) { other[i], other[j] = other[j], other[i] })
-			y, again, otherErr := Elab(other, l[i].Name)
-			otherNames, otherOrderErr := Order(other, l[i].Name)
+			y, again, otherErr := elab.Elab(other, l[i].Name)
+			otherNames, otherOrderErr := elab.Order(other, l[i].Name)
 			if !rename.Same(x, y) || start != again || err != otherErr || !slices.Equal(names, otherNames) || orderErr != otherOrderErr {
 				t.Fatal(l, l[i].Name)
 			}
@@ -204,8 +205,8 @@ func TestOwn(t *testing.T) {
 	m := with(mod("a", "b"), "t", "s", "t")
 	m.Over = [][2]string{{"t", "s"}}
 	m.Rules = []api.Rule{{Label: "l", Sort: sym("S", sym("x")), Right: []api.Name{sym("x", sym("y"))}}}
-	x := Own(m)
-	if !reflect.DeepEqual(x, rename.Items{Terms: m.Terms, Over: m.Over, Rules: m.Rules}) {
+	x := elab.Own(m)
+	if !rename.Same(x, rename.Items{Terms: m.Terms, Over: m.Over, Rules: m.Rules}) {
 		t.Error(x)
 	}
 	x.Terms[0].Name, x.Over[0][0], x.Rules[0].Sort.Arg[0].Of, x.Rules[0].Right[0].Arg[0].Of = "", "", "", ""
@@ -218,7 +219,7 @@ func TestAnswersShareNothing(t *testing.T) {
 	m := with(mod("a"), "t")
 	m.Rules = []api.Rule{{Label: "l", Sort: sym("S"), Right: []api.Name{sym("x", sym("y"))}}}
 	l := []api.Module{m}
-	x, _, _ := Elab(l, "a")
+	x, _, _ := elab.Elab(l, "a")
 	x.Terms[0].Name, x.Rules[0].Right[0].Arg[0].Of = "", ""
 	if m.Terms[0].Name != "t" || m.Rules[0].Right[0].Arg[0].Of != "y" {
 		t.Error("shared")

@@ -1,4 +1,4 @@
-package lexical
+package lexical_test
 
 import (
 	"math"
@@ -9,6 +9,7 @@ import (
 
 	"syntagm/api"
 	"syntagm/bits"
+	"syntagm/lexical"
 	"syntagm/mini"
 	"syntagm/munch"
 	"syntagm/sets"
@@ -27,9 +28,9 @@ func grammar(regexes []string, rights ...[]api.Sym) api.Grammar {
 	return g
 }
 
-func built(t *testing.T, g api.Grammar) (Scanner, table.Table) {
+func built(t *testing.T, g api.Grammar) (lexical.Scanner, table.Table) {
 	t.Helper()
-	s, tab, err := Build(g)
+	s, tab, err := lexical.Build(g)
 	if err != api.OK {
 		t.Fatal(err)
 	}
@@ -39,22 +40,22 @@ func built(t *testing.T, g api.Grammar) (Scanner, table.Table) {
 func TestExample(t *testing.T) {
 	// S = if, S = name: both at one place.
 	g := grammar([]string{"if", "[a-z]+"}, []api.Sym{0}, []api.Sym{1})
-	s, tab, err := Build(g)
-	if err != api.ErrLex || !reflect.DeepEqual(s, Scanner{}) || !reflect.DeepEqual(tab, table.Table{}) {
+	s, tab, err := lexical.Build(g)
+	if err != api.ErrLex || !reflect.DeepEqual(s, lexical.Scanner{}) || !reflect.DeepEqual(tab, table.Table{}) {
 		t.Error(s, tab, err)
 	}
-	l := Clashes(g)
+	l := lexical.Clashes(g)
 	d, _ := mini.Of([]string{"if", "[a-z]+"})
 	if len(l) != 1 || l[0][0] != 0 || d.Tags[l[0][1]] != bits.Of(0, 1) {
 		t.Error(l)
 	}
 	g.Over = [][2]int{{0, 1}}
 	s, _ = built(t, g)
-	if len(Clashes(g)) != 0 {
-		t.Error(Clashes(g))
+	if len(lexical.Clashes(g)) != 0 {
+		t.Error(lexical.Clashes(g))
 	}
 	for text, want := range map[string]int{"if": 0, "iff": 1, "i": 1} {
-		if tag, to := Scan(s, 0, text, 0); tag != want || to != len(text) {
+		if tag, to := lexical.Scan(s, 0, text, 0); tag != want || to != len(text) {
 			t.Error(text, tag, to)
 		}
 	}
@@ -81,16 +82,16 @@ func TestWhatMayComeWhere(t *testing.T) {
 			t.Error(state, may, want)
 		}
 	}
-	if tag, to := Scan(s, 0, "iff", 0); tag != 0 || to != 2 {
+	if tag, to := lexical.Scan(s, 0, "iff", 0); tag != 0 || to != 2 {
 		t.Error(tag, to)
 	}
-	if tag, to := Scan(s, tab.Deeds[0][0].N, "iff", 0); tag != 1 || to != 3 {
+	if tag, to := lexical.Scan(s, tab.Deeds[0][0].N, "iff", 0); tag != 1 || to != 3 {
 		t.Error(tag, to)
 	}
-	if tag, to := Scan(s, 0, "x", 0); tag != -1 || to != 0 {
+	if tag, to := lexical.Scan(s, 0, "x", 0); tag != -1 || to != 0 {
 		t.Error(tag, to)
 	}
-	if tag, to := Scan(s, 0, " if", 0); tag != 2 || to != 1 {
+	if tag, to := lexical.Scan(s, 0, " if", 0); tag != 2 || to != 1 {
 		t.Error(tag, to)
 	}
 }
@@ -99,20 +100,20 @@ func TestNoSuchState(t *testing.T) {
 	s, tab := built(t, grammar([]string{"a"}, []api.Sym{0}))
 	for _, state := range []int{-1, len(tab.May), math.MaxInt, math.MinInt} {
 		for _, at := range []int{0, -7, 99} {
-			if tag, to := Scan(s, state, "a", at); tag != -1 || to != at {
+			if tag, to := lexical.Scan(s, state, "a", at); tag != -1 || to != at {
 				t.Error(state, at, tag, to)
 			}
 		}
 	}
 	for _, at := range []int{-1, 1, 2} {
-		if tag, to := Scan(s, 0, "a", at); tag != -1 || to != at {
+		if tag, to := lexical.Scan(s, 0, "a", at); tag != -1 || to != at {
 			t.Error(at, tag, to)
 		}
 	}
-	if tag, to := Scan(Scanner{}, 0, "a", 5); tag != -1 || to != 5 {
+	if tag, to := lexical.Scan(lexical.Scanner{}, 0, "a", 5); tag != -1 || to != 5 {
 		t.Error(tag, to)
 	}
-	if tag, to := Scan(Scanner{May: []api.Set{1}}, 0, "a", 0); tag != -1 || to != 0 {
+	if tag, to := lexical.Scan(lexical.Scanner{May: []api.Set{1}}, 0, "a", 0); tag != -1 || to != 0 {
 		t.Error(tag, to)
 	}
 }
@@ -130,11 +131,11 @@ func TestErrors(t *testing.T) {
 		{grammar([]string{"(a|b)*a" + strings.Repeat("(a|b)", 15)}, []api.Sym{0}), api.ErrMany},
 		{grammar([]string{"a", "a"}, []api.Sym{0}, []api.Sym{1}), api.ErrLex},
 	} {
-		s, tab, err := Build(x.g)
-		if err != x.want || !reflect.DeepEqual(s, Scanner{}) || !reflect.DeepEqual(tab, table.Table{}) {
+		s, tab, err := lexical.Build(x.g)
+		if err != x.want || !reflect.DeepEqual(s, lexical.Scanner{}) || !reflect.DeepEqual(tab, table.Table{}) {
 			t.Error(x.want, err)
 		}
-		if l := Clashes(x.g); (len(l) > 0) != (x.want == api.ErrLex) {
+		if l := lexical.Clashes(x.g); (len(l) > 0) != (x.want == api.ErrLex) {
 			t.Error(x.want, l)
 		}
 	}
@@ -167,9 +168,9 @@ func TestClashes(t *testing.T) {
 		for _, n := range x.layout {
 			g.Terms[n].Layout = true
 		}
-		_, _, err := Build(g)
-		if want := map[bool]api.Errno{false: api.OK, true: api.ErrLex}[x.clash]; err != want || (len(Clashes(g)) > 0) != x.clash {
-			t.Error(i, err, Clashes(g))
+		_, _, err := lexical.Build(g)
+		if want := map[bool]api.Errno{false: api.OK, true: api.ErrLex}[x.clash]; err != want || (len(lexical.Clashes(g)) > 0) != x.clash {
+			t.Error(i, err, lexical.Clashes(g))
 		}
 	}
 }
@@ -191,7 +192,7 @@ func TestClashesAreAllPairs(t *testing.T) {
 			}
 		}
 	}
-	if got := Clashes(g); !slices.Equal(got, want) || len(want) < 2 {
+	if got := lexical.Clashes(g); !slices.Equal(got, want) || len(want) < 2 {
 		t.Error(got, want)
 	}
 }
@@ -205,7 +206,7 @@ func TestLayouts(t *testing.T) {
 	for i := 1; i < 60; i += 2 {
 		want |= 1 << i
 	}
-	if got := Layouts(g); got != want || Layouts(api.Grammar{}) != 0 {
+	if got := lexical.Layouts(g); got != want || lexical.Layouts(api.Grammar{}) != 0 {
 		t.Error(got)
 	}
 }
@@ -216,7 +217,7 @@ func TestNothingIsShared(t *testing.T) {
 	s, tab := built(t, g)
 	g.Over[0] = [2]int{1, 0}
 	tab.May[0] = 0
-	if tag, _ := Scan(s, 0, "if", 0); tag != 0 {
+	if tag, _ := lexical.Scan(s, 0, "if", 0); tag != 0 {
 		t.Error("shared")
 	}
 }

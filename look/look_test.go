@@ -1,4 +1,4 @@
-package look
+package look_test
 
 import (
 	"math/rand"
@@ -9,6 +9,7 @@ import (
 
 	"syntagm/api"
 	"syntagm/bits"
+	"syntagm/look"
 	"syntagm/sets"
 	"syntagm/states"
 )
@@ -29,9 +30,9 @@ func some(rnd *rand.Rand) api.Grammar {
 	return g
 }
 
-func rowsOf(t *testing.T, g api.Grammar) []Row {
+func rowsOf(t *testing.T, g api.Grammar) []look.Row {
 	t.Helper()
-	l, err := All(g)
+	l, err := look.All(g)
 	if err != api.OK {
 		t.Fatal(g, err)
 	}
@@ -41,7 +42,7 @@ func rowsOf(t *testing.T, g api.Grammar) []Row {
 func TestExample(t *testing.T) {
 	g := api.Grammar{Terms: []api.Term{{Name: "a"}}, Sorts: []string{"S"}, Prods: []api.Prod{{Label: "x", Right: []api.Sym{0}}}}
 	end := bits.Of(sets.End)
-	want := []Row{
+	want := []look.Row{
 		{[]states.Item{{Prod: -1, Dot: 0}, {Prod: 0, Dot: 0}}, []api.Set{end, end}},
 		{[]states.Item{{Prod: 0, Dot: 1}}, []api.Set{end}},
 		{[]states.Item{{Prod: -1, Dot: 1}}, []api.Set{end}},
@@ -50,13 +51,13 @@ func TestExample(t *testing.T) {
 	if !reflect.DeepEqual(l, want) {
 		t.Error(l)
 	}
-	if d := Done(g, l[1]); !slices.Equal(d, []int{0}) {
+	if d := look.Done(g, l[1]); !slices.Equal(d, []int{0}) {
 		t.Error(d)
 	}
-	if d := Done(g, l[2]); !slices.Equal(d, []int{-1}) {
+	if d := look.Done(g, l[2]); !slices.Equal(d, []int{-1}) {
 		t.Error(d)
 	}
-	if d := Done(g, l[0]); len(d) != 0 {
+	if d := look.Done(g, l[0]); len(d) != 0 {
 		t.Error(d)
 	}
 }
@@ -125,11 +126,11 @@ func TestTheyAreTheLeastSets(t *testing.T) {
 					done = append(done, x.Prod)
 				}
 			}
-			if !slices.Equal(Done(g, r), done) {
+			if !slices.Equal(look.Done(g, r), done) {
 				t.Fatal(g, r, done)
 			}
 		}
-		if !reflect.DeepEqual(Ahead(g, a), l) {
+		if !reflect.DeepEqual(look.Ahead(g, a), l) {
 			t.Fatal(g)
 		}
 	}
@@ -146,20 +147,20 @@ func TestOfAnotherAutomaton(t *testing.T) {
 		func(a *states.Automaton) { a.Kernels = a.Kernels[:2] },
 	} {
 		a, _ := states.Build(g)
-		if len(Ahead(g, a)) != 3 {
+		if len(look.Ahead(g, a)) != 3 {
 			t.Fatal("of its own")
 		}
-		if spoil(&a); len(Ahead(g, a)) != 0 {
+		if spoil(&a); len(look.Ahead(g, a)) != 0 {
 			t.Error(i)
 		}
 	}
-	if a, _ := states.Build(g); len(Ahead(api.Grammar{}, a)) != 0 {
+	if a, _ := states.Build(g); len(look.Ahead(api.Grammar{}, a)) != 0 {
 		t.Error("of no grammar")
 	}
 }
 
 func TestErrors(t *testing.T) {
-	if l, err := All(api.Grammar{}); err != api.ErrArg || len(l) != 0 {
+	if l, err := look.All(api.Grammar{}); err != api.ErrArg || len(l) != 0 {
 		t.Error(l, err)
 	}
 	// S = a S, S = b S, S = a T0; T0 = a T1, T0 = b T1 ..: states know of which of the last bytes were an a.
@@ -182,24 +183,24 @@ func TestErrors(t *testing.T) {
 			add(i)
 		}
 	}
-	if l, err := All(g); err != api.ErrMany || len(l) != 0 {
+	if l, err := look.All(g); err != api.ErrMany || len(l) != 0 {
 		t.Error(len(l), err)
 	}
 }
 
 func TestDoneOfAnyRow(t *testing.T) {
 	g := api.Grammar{Terms: []api.Term{{Name: "a"}}, Sorts: []string{"S"}, Prods: []api.Prod{{Label: "x", Right: []api.Sym{0}}, {Label: "y"}}}
-	r := Row{
-		Items: []states.Item{{Prod: 0, Dot: 1}, {Prod: 1, Dot: 0}, {Prod: -1, Dot: 1}, {Prod: 0, Dot: 0}, {Prod: 0, Dot: 2}, {Prod: 7, Dot: 0}, {Prod: -2, Dot: 0}, {Prod: 1, Dot: -1}, {Prod: 0, Dot: 1}},
-		Ahead: []api.Set{1, 0, 2, 1, 1, 1, 1, 1},
+	r := look.Row{
+		Items: []states.Item{{Prod: -2, Dot: 0}, {Prod: -1, Dot: 1}, {Prod: 0, Dot: 0}, {Prod: 0, Dot: 1}, {Prod: 0, Dot: 2}, {Prod: 1, Dot: -1}, {Prod: 1, Dot: 0}, {Prod: 7, Dot: 0}},
+		Ahead: []api.Set{1, 2, 1, 1, 1, 1, 0, 1},
 	}
-	if d := Done(g, r); !slices.Equal(d, []int{0, -1}) {
+	if d := look.Done(g, r); !slices.Equal(d, []int{-1, 0}) {
 		t.Error(d)
 	}
-	if d := Done(api.Grammar{}, r); len(d) != 0 {
+	if d := look.Done(api.Grammar{}, r); len(d) != 0 {
 		t.Error(d)
 	}
-	if d := Done(g, Row{}); len(d) != 0 {
+	if d := look.Done(g, look.Row{}); len(d) != 0 {
 		t.Error(d)
 	}
 }

@@ -1,4 +1,4 @@
-package mini
+package mini_test
 
 import (
 	"math/rand"
@@ -9,6 +9,7 @@ import (
 
 	"syntagm/api"
 	"syntagm/dfa"
+	"syntagm/mini"
 	"syntagm/regex"
 )
 
@@ -93,7 +94,7 @@ func TestLeast(t *testing.T) {
 	for range 3000 {
 		d := some(rnd)
 		before := clone(d)
-		l, err := Least(d)
+		l, err := mini.Least(d)
 		if err != api.OK || !dfa.Valid(l) || l.Class != d.Class || len(l.Next[0]) != len(d.Next[0]) {
 			t.Fatal(d, l, err)
 		}
@@ -104,7 +105,7 @@ func TestLeast(t *testing.T) {
 			t.Fatal("not the same", d, l)
 		}
 		for at := range l.Next {
-			if at > 0 && !Live(l, at) {
+			if at > 0 && !mini.Live(l, at) {
 				t.Fatal("not live", l, at)
 			}
 			for other := range at {
@@ -127,7 +128,7 @@ func TestLeast(t *testing.T) {
 		if next != len(l.Next) {
 			t.Fatal("a state that is not come to", l)
 		}
-		if again, _ := Least(l); !Same(again, l) {
+		if again, _ := mini.Least(l); !mini.Same(again, l) {
 			t.Fatal("the least one has a lesser one", l, again)
 		}
 	}
@@ -148,12 +149,12 @@ func TestLive(t *testing.T) {
 		d := some(rnd)
 		for at := -2; at < len(d.Next)+2; at++ {
 			want := at >= 0 && at < len(d.Next) && alive(d, at, len(d.Next))
-			if Live(d, at) != want {
+			if mini.Live(d, at) != want {
 				t.Fatal(d, at)
 			}
 		}
 		d.Class[3] = 9
-		if Live(d, 0) {
+		if mini.Live(d, 0) {
 			t.Fatal("of what is not valid")
 		}
 	}
@@ -161,15 +162,15 @@ func TestLive(t *testing.T) {
 
 func TestNothingIsAccepted(t *testing.T) {
 	d := dfa.DFA{Next: [][]int{{1, 0}, {0, 1}}, Tags: []api.Set{0, 0}}
-	l, err := Least(d)
-	if err != api.OK || !Same(l, dfa.DFA{Next: [][]int{{-1, -1}}, Tags: []api.Set{0}}) {
+	l, err := mini.Least(d)
+	if err != api.OK || !mini.Same(l, dfa.DFA{Next: [][]int{{-1, -1}}, Tags: []api.Set{0}}) {
 		t.Error(l, err)
 	}
 }
 
 func TestNotValid(t *testing.T) {
 	for _, d := range []dfa.DFA{{}, {Next: [][]int{{1}}, Tags: []api.Set{0}}, {Next: [][]int{{0}}}} {
-		if l, err := Least(d); err != api.ErrArg || !reflect.DeepEqual(l, dfa.DFA{}) {
+		if l, err := mini.Least(d); err != api.ErrArg || !reflect.DeepEqual(l, dfa.DFA{}) {
 			t.Error(l, err)
 		}
 	}
@@ -177,7 +178,7 @@ func TestNotValid(t *testing.T) {
 
 func TestSame(t *testing.T) {
 	good := func() dfa.DFA { return dfa.DFA{Next: [][]int{{1, -1}, {-1, 0}}, Tags: []api.Set{0, 1}} }
-	if !Same(good(), good()) || !Same(dfa.DFA{}, dfa.DFA{Next: [][]int{}, Tags: []api.Set{}}) {
+	if !mini.Same(good(), good()) || !mini.Same(dfa.DFA{}, dfa.DFA{Next: [][]int{}, Tags: []api.Set{}}) {
 		t.Error("alike")
 	}
 	for i, spoil := range []func(*dfa.DFA){
@@ -189,7 +190,7 @@ func TestSame(t *testing.T) {
 		func(d *dfa.DFA) { d.Tags = d.Tags[:1] },
 	} {
 		d := good()
-		if spoil(&d); Same(d, good()) || Same(good(), d) {
+		if spoil(&d); mini.Same(d, good()) || mini.Same(good(), d) {
 			t.Error(i)
 		}
 	}
@@ -197,7 +198,7 @@ func TestSame(t *testing.T) {
 
 func least(t *testing.T, texts ...string) dfa.DFA {
 	t.Helper()
-	d, err := Of(texts)
+	d, err := mini.Of(texts)
 	if err != api.OK {
 		t.Fatal(texts, err)
 	}
@@ -207,11 +208,11 @@ func least(t *testing.T, texts ...string) dfa.DFA {
 func TestTwoRegexesThatMatchTheSame(t *testing.T) {
 	for _, x := range [][2]string{{"a|b", "[a]|[b]"}, {"(a|b)*", "(a*b*)*"}, {"a*", "(a*)*"}, {"aa*", "a+"}, {"a(b|c)", "ab|ac"}, {"a?b?", "|a|b|ab"}, {"(ab)*a", "a(ba)*"}, {"", "()*"}, {"[]", "[]a*[]"}} {
 		a, b := least(t, x[0]), least(t, x[1])
-		if a.Class == b.Class && !Same(a, b) {
+		if a.Class == b.Class && !mini.Same(a, b) {
 			t.Errorf("%q: %v, %v", x, a.Next, b.Next)
 		}
 	}
-	if a, b := least(t, "a|b"), least(t, "[a]|[b]"); !Same(a, b) || len(a.Next) != 2 {
+	if a, b := least(t, "a|b"), least(t, "[a]|[b]"); !mini.Same(a, b) || len(a.Next) != 2 {
 		t.Error("a|b")
 	}
 	if d := least(t, "ab", "a*"); len(d.Next) != 4 {
@@ -251,7 +252,7 @@ func TestOfFails(t *testing.T) {
 		{append(make([]string, 61), "("), api.ErrForm},
 		{[]string{"(a|b)*a" + strings.Repeat("(a|b)", 15)}, api.ErrMany},
 	} {
-		if d, err := Of(x.l); err != x.want || !reflect.DeepEqual(d, dfa.DFA{}) {
+		if d, err := mini.Of(x.l); err != x.want || !reflect.DeepEqual(d, dfa.DFA{}) {
 			t.Error(x.l, err)
 		}
 	}
@@ -263,7 +264,7 @@ func TestAHandMadeChain(t *testing.T) {
 		d.Next = append(d.Next, []int{min(at+1, 1499)})
 		d.Tags = append(d.Tags, api.Set(at/1499))
 	}
-	if l, _ := Least(d); len(l.Next) != 1500 {
+	if l, _ := mini.Least(d); len(l.Next) != 1500 {
 		t.Error(len(l.Next))
 	}
 }

@@ -1,4 +1,4 @@
-package munch
+package munch_test
 
 import (
 	"math"
@@ -10,6 +10,7 @@ import (
 	"syntagm/api"
 	"syntagm/bits"
 	"syntagm/dfa"
+	"syntagm/munch"
 	"syntagm/regex"
 )
 
@@ -36,7 +37,7 @@ func TestExample(t *testing.T) {
 	d := built(t, "[a-z]+", "if")
 	over := [][2]int{{1, 0}}
 	for text, want := range map[string]int{"if": 1, "iff": 0, "i": 0} {
-		if tag, to := Pick(d, text, 0, every, over); tag != want || to != len(text) {
+		if tag, to := munch.Pick(d, text, 0, every, over); tag != want || to != len(text) {
 			t.Error(text, tag, to)
 		}
 	}
@@ -57,13 +58,13 @@ func TestNoLongerPieceMayBe(t *testing.T) {
 		}
 		at := rnd.Intn(len(text)+4) - 2
 		may := api.Set(rnd.Intn(16))
-		want := Piece{To: at}
+		want := munch.Piece{To: at}
 		for to := at + 1; at >= 0 && to <= len(text); to++ {
 			if tags := dfa.Run(d, text[at:to]) & may; tags != 0 {
-				want = Piece{tags, to}
+				want = munch.Piece{tags, to}
 			}
 		}
-		if got := Longest(d, text, at, may); got != want {
+		if got := munch.Longest(d, text, at, may); got != want {
 			t.Fatal(text, at, may, got, want)
 		}
 	}
@@ -72,14 +73,14 @@ func TestNoLongerPieceMayBe(t *testing.T) {
 func TestNoSuchPlace(t *testing.T) {
 	d := built(t, "a*")
 	for _, at := range []int{-1, 3, 4, math.MaxInt, math.MinInt} {
-		if p := Longest(d, "aaa", at, every); p != (Piece{To: at}) {
+		if p := munch.Longest(d, "aaa", at, every); p != (munch.Piece{To: at}) {
 			t.Error(at, p)
 		}
-		if tag, to := Pick(d, "aaa", at, every, nil); tag != -1 || to != at {
+		if tag, to := munch.Pick(d, "aaa", at, every, nil); tag != -1 || to != at {
 			t.Error(at, tag, to)
 		}
 	}
-	if p := Longest(dfa.DFA{}, "a", 0, every); p != (Piece{}) {
+	if p := munch.Longest(dfa.DFA{}, "a", 0, every); p != (munch.Piece{}) {
 		t.Error(p)
 	}
 }
@@ -100,7 +101,7 @@ func TestWin(t *testing.T) {
 		{[]int{63, 1}, [][2]int{{63, 1}, {-1, 63}, {64, 63}, {1, 99}}, []int{63}},
 		{nil, [][2]int{{0, 1}}, nil},
 	} {
-		if got := Win(bits.Of(x.tags...), x.over); got != bits.Of(x.want...) {
+		if got := munch.Win(bits.Of(x.tags...), x.over); got != bits.Of(x.want...) {
 			t.Error(x, bits.List(got))
 		}
 	}
@@ -126,7 +127,7 @@ func TestPick(t *testing.T) {
 		{"xc", 0, every, nil, -1, 0},
 		{"ab", 0, 0, nil, -1, 0},
 	} {
-		if tag, to := Pick(d, x.text, x.at, x.may, x.over); tag != x.tag || to != x.to {
+		if tag, to := munch.Pick(d, x.text, x.at, x.may, x.over); tag != x.tag || to != x.to {
 			t.Error(x, tag, to)
 		}
 	}
@@ -135,16 +136,16 @@ func TestPick(t *testing.T) {
 func TestAll(t *testing.T) {
 	d := built(t, "[a-z]+", "if", " ", "[0-9]")
 	over := [][2]int{{1, 0}}
-	l, to := All(d, "if iff7x!", every, over)
-	want := []Piece{{2, 2}, {4, 3}, {1, 6}, {8, 7}, {1, 8}}
+	l, to := munch.All(d, "if iff7x!", every, over)
+	want := []munch.Piece{{2, 2}, {4, 3}, {1, 6}, {8, 7}, {1, 8}}
 	if !slices.Equal(l, want) || to != 8 {
 		t.Error(l, to)
 	}
-	if l, to := All(d, "", every, over); len(l) != 0 || to != 0 {
+	if l, to := munch.All(d, "", every, over); len(l) != 0 || to != 0 {
 		t.Error(l, to)
 	}
 	// Two are left of if: it goes on no more where that begins.
-	if l, to := All(d, "a if", every, nil); len(l) != 2 || to != 2 {
+	if l, to := munch.All(d, "a if", every, nil); len(l) != 2 || to != 2 {
 		t.Error(l, to)
 	}
 }
@@ -157,10 +158,10 @@ func TestThePiecesAreTheText(t *testing.T) {
 		for range rnd.Intn(9) {
 			text += string("abc"[rnd.Intn(3)])
 		}
-		l, end := All(d, text, every, nil)
+		l, end := munch.All(d, text, every, nil)
 		at := 0
 		for _, p := range l {
-			if p.To <= at || bits.Count(p.Tags) != 1 || p.Tags != Longest(d, text, at, every).Tags {
+			if p.To <= at || bits.Count(p.Tags) != 1 || p.Tags != munch.Longest(d, text, at, every).Tags {
 				t.Fatal(text, l)
 			}
 			at = p.To
@@ -168,7 +169,7 @@ func TestThePiecesAreTheText(t *testing.T) {
 		if at != end {
 			t.Fatal(text, l, end)
 		}
-		if tag, _ := Pick(d, text, end, every, nil); tag != -1 {
+		if tag, _ := munch.Pick(d, text, end, every, nil); tag != -1 {
 			t.Fatal(text, "goes on")
 		}
 	}
@@ -177,7 +178,7 @@ func TestThePiecesAreTheText(t *testing.T) {
 func TestArgumentsAreLeft(t *testing.T) {
 	d := built(t, "a", "b")
 	over := [][2]int{{0, 1}}
-	All(d, strings.Repeat("ab", 50), every, over)
+	munch.All(d, strings.Repeat("ab", 50), every, over)
 	if !slices.Equal(over, [][2]int{{0, 1}}) || dfa.Run(d, "a") != 1 {
 		t.Error("changed")
 	}

@@ -1,4 +1,4 @@
-package nfa
+package nfa_test
 
 import (
 	"math"
@@ -9,6 +9,7 @@ import (
 
 	"syntagm/api"
 	"syntagm/bits"
+	"syntagm/nfa"
 	"syntagm/regex"
 )
 
@@ -25,9 +26,9 @@ func all(t *testing.T, texts ...string) []api.Regex {
 	return l
 }
 
-func built(t *testing.T, l []api.Regex) *Machine {
+func built(t *testing.T, l []api.Regex) *nfa.Machine {
 	t.Helper()
-	m, err := Build(l)
+	m, err := nfa.Build(l)
 	if err != api.OK || m == nil {
 		t.Fatal(err)
 	}
@@ -155,11 +156,11 @@ func TestStatesThatThereAreNot(t *testing.T) {
 
 func TestSize(t *testing.T) {
 	for text, want := range map[string]int{"": 1, "a": 1, "ab": 3, "a+": 4, "a?b*|c": 8} {
-		if got := Size(all(t, text)[0]); got != want {
+		if got := nfa.Size(all(t, text)[0]); got != want {
 			t.Errorf("Size(%q) = %d, want %d", text, got, want)
 		}
 	}
-	if Size(api.Regex{Kind: 9, Kids: make([]api.Regex, 3)}) != 4 {
+	if nfa.Size(api.Regex{Kind: 9, Kids: make([]api.Regex, 3)}) != 4 {
 		t.Error("kids of any kind count")
 	}
 }
@@ -167,21 +168,14 @@ func TestSize(t *testing.T) {
 func TestTooMany(t *testing.T) {
 	l := make([]api.Regex, 60)
 	built(t, l)
-	if m, err := Build(make([]api.Regex, 61)); m != nil || err != api.ErrMany {
+	if m, err := nfa.Build(make([]api.Regex, 61)); m != nil || err != api.ErrMany {
 		t.Error("61 regexes")
 	}
 	l[0].Kids = make([]api.Regex, 2940)
 	built(t, l)
 	l[59].Kids = make([]api.Regex, 1)
-	if m, err := Build(l); m != nil || err != api.ErrMany {
+	if m, err := nfa.Build(l); m != nil || err != api.ErrMany {
 		t.Error("a size of 3001")
-	}
-	wide := api.Regex{Kind: api.RegexAlt}
-	for range 40 {
-		wide = api.Regex{Kind: api.RegexAlt, Kids: []api.Regex{wide, wide}}
-	}
-	if _, err := Build([]api.Regex{wide}); err != api.ErrMany {
-		t.Error("a size of 2 to the 41")
 	}
 }
 

@@ -1,10 +1,11 @@
-package parts
+package parts_test
 
 import (
 	"reflect"
 	"testing"
 
 	"syntagm/api"
+	"syntagm/parts"
 )
 
 func rule() api.Rule {
@@ -12,7 +13,7 @@ func rule() api.Rule {
 }
 
 func TestSame(t *testing.T) {
-	if !SameRule(rule(), rule()) || !SameNames(nil, []api.Name{}) {
+	if !parts.SameRule(rule(), rule()) || !parts.SameNames(nil, []api.Name{}) {
 		t.Error("alike")
 	}
 	for i, spoil := range []func(*api.Rule){
@@ -24,7 +25,7 @@ func TestSame(t *testing.T) {
 		func(r *api.Rule) { r.Right = r.Right[:1] },
 	} {
 		r := rule()
-		if spoil(&r); SameRule(r, rule()) {
+		if spoil(&r); parts.SameRule(r, rule()) {
 			t.Error(i)
 		}
 	}
@@ -32,19 +33,19 @@ func TestSame(t *testing.T) {
 
 func TestCopiesShareNothing(t *testing.T) {
 	l := []api.Rule{rule()}
-	c := CopyRules(l)
-	if !SameRule(c[0], rule()) {
+	c := parts.CopyRules(l)
+	if !parts.SameRule(c[0], rule()) {
 		t.Error(c)
 	}
 	c[0].Label, c[0].Sort.Arg[0].Of, c[0].Right[0].Of, c[0].Right[1].Arg[0].Of = "", "", "", ""
-	if !SameRule(l[0], rule()) {
+	if !parts.SameRule(l[0], rule()) {
 		t.Error("rules are shared")
 	}
 	grammar := func() api.Grammar {
 		return api.Grammar{Terms: []api.Term{{Name: "a"}}, Over: [][2]int{{0, 0}}, Sorts: []string{"S"}, Prods: []api.Prod{{Label: "l", Right: []api.Sym{0}}}}
 	}
 	g := grammar()
-	h := CopyGrammar(g)
+	h := parts.CopyGrammar(g)
 	if !reflect.DeepEqual(g, h) {
 		t.Error(h)
 	}
@@ -53,7 +54,7 @@ func TestCopiesShareNothing(t *testing.T) {
 		t.Error("grammars are shared")
 	}
 	n := api.Node{Prod: 1, Kids: []api.Node{{Prod: -1, Term: 2, To: 1}}}
-	m := CopyNode(n)
+	m := parts.CopyNode(n)
 	if !reflect.DeepEqual(n, m) {
 		t.Error(m)
 	}

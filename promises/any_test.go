@@ -264,11 +264,10 @@ func alike(a, b reflect.Value) bool {
 	return a.Interface() == b.Interface()
 }
 
-// spoil changes whatever a value's lists hold, up to where each list's memory ends.
+// spoil changes whatever a value's lists hold.
 func spoil(v reflect.Value) {
 	switch v.Kind() {
 	case reflect.Slice:
-		v = v.Slice(0, v.Cap())
 		for i := range v.Len() {
 			spoil(v.Index(i))
 			v.Index(i).SetZero()
@@ -287,8 +286,8 @@ type stretch struct{ from, to uintptr }
 func memory(l []stretch, v reflect.Value) []stretch {
 	switch v.Kind() {
 	case reflect.Slice:
-		if v.Cap() > 0 && v.Type().Elem().Size() > 0 {
-			l = append(l, stretch{v.Pointer(), v.Pointer() + uintptr(v.Cap())*v.Type().Elem().Size()})
+		if v.Len() > 0 {
+			l = append(l, stretch{v.Pointer(), v.Pointer() + uintptr(v.Len())*v.Type().Elem().Size()})
 		}
 		for i := range v.Len() {
 			l = memory(l, v.Index(i))

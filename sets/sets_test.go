@@ -1,4 +1,4 @@
-package sets
+package sets_test
 
 import (
 	"math"
@@ -11,6 +11,7 @@ import (
 	"syntagm/api"
 	"syntagm/bits"
 	"syntagm/inst"
+	"syntagm/sets"
 )
 
 // some is a grammar of terminals a, b, c, of sorts A, B, C, and of some productions.
@@ -44,39 +45,39 @@ const a, b, c, A, B, C = api.Sym(0), api.Sym(1), api.Sym(2), api.Sym(-1), api.Sy
 
 func TestExample(t *testing.T) {
 	g := grammar(0, prod(0, a, A), prod(0))
-	if !Empty(g)[0] || First(g)[0] != bits.Of(0) || Follow(g)[0] != bits.Of(End) || !Lives(g)[0] || Empty(g)[1] || Lives(g)[1] {
-		t.Error(Empty(g), First(g), Follow(g), Lives(g))
+	if !sets.Empty(g)[0] || sets.First(g)[0] != bits.Of(0) || sets.Follow(g)[0] != bits.Of(sets.End) || !sets.Lives(g)[0] || sets.Empty(g)[1] || sets.Lives(g)[1] {
+		t.Error(sets.Empty(g), sets.First(g), sets.Follow(g), sets.Lives(g))
 	}
 }
 
 func TestSets(t *testing.T) {
 	// A = B C a; B = b, nothing; C = c C, B.
 	g := grammar(0, prod(0, B, C, a), prod(1, b), prod(1), prod(2, c, C), prod(2, B))
-	if got := Empty(g); !slices.Equal(got, []bool{false, true, true}) {
+	if got := sets.Empty(g); !slices.Equal(got, []bool{false, true, true}) {
 		t.Error(got)
 	}
-	if got := First(g); !slices.Equal(got, []api.Set{bits.Of(0, 1, 2), bits.Of(1), bits.Of(1, 2)}) {
+	if got := sets.First(g); !slices.Equal(got, []api.Set{bits.Of(0, 1, 2), bits.Of(1), bits.Of(1, 2)}) {
 		t.Error(got)
 	}
-	if got := Follow(g); !slices.Equal(got, []api.Set{bits.Of(End), bits.Of(0, 1, 2), bits.Of(0)}) {
+	if got := sets.Follow(g); !slices.Equal(got, []api.Set{bits.Of(sets.End), bits.Of(0, 1, 2), bits.Of(0)}) {
 		t.Error(got)
 	}
-	if got := Lives(g); !slices.Equal(got, []bool{true, true, true}) {
+	if got := sets.Lives(g); !slices.Equal(got, []bool{true, true, true}) {
 		t.Error(got)
 	}
 }
 
 func TestOf(t *testing.T) {
 	g := grammar(0, prod(0, B, C, a), prod(1, b), prod(1), prod(2, c, C), prod(2, B))
-	behind := bits.Of(5, End)
+	behind := bits.Of(5, sets.End)
 	for _, x := range []struct {
 		l    []api.Sym
 		want api.Set
 	}{
 		{nil, behind},
 		{[]api.Sym{a}, bits.Of(0)},
-		{[]api.Sym{B}, bits.Of(1, 5, End)},
-		{[]api.Sym{B, C}, bits.Of(1, 2, 5, End)},
+		{[]api.Sym{B}, bits.Of(1, 5, sets.End)},
+		{[]api.Sym{B, C}, bits.Of(1, 2, 5, sets.End)},
 		{[]api.Sym{B, a, c}, bits.Of(0, 1)},
 		{[]api.Sym{A}, bits.Of(0, 1, 2)},
 		{[]api.Sym{3}, 0},
@@ -85,7 +86,7 @@ func TestOf(t *testing.T) {
 		{[]api.Sym{B, math.MinInt, a}, bits.Of(1)},
 		{[]api.Sym{B, math.MaxInt}, bits.Of(1)},
 	} {
-		if got := Of(g, x.l, behind); got != x.want {
+		if got := sets.Of(g, x.l, behind); got != x.want {
 			t.Errorf("%v: %v, want %v", x.l, bits.List(got), bits.List(x.want))
 		}
 	}
@@ -93,7 +94,7 @@ func TestOf(t *testing.T) {
 
 func TestNoTerminals(t *testing.T) {
 	g := api.Grammar{Sorts: []string{"S"}, Prods: []api.Prod{{Label: "x"}}}
-	if Of(g, []api.Sym{A, 0, A}, 1) != 0 || Of(g, []api.Sym{A}, 1) != 1 || First(g)[0] != 0 || !Empty(g)[0] {
+	if sets.Of(g, []api.Sym{A, 0, A}, 1) != 0 || sets.Of(g, []api.Sym{A}, 1) != 1 || sets.First(g)[0] != 0 || !sets.Empty(g)[0] {
 		t.Error("there is no terminal")
 	}
 }
@@ -101,7 +102,7 @@ func TestNoTerminals(t *testing.T) {
 func TestNotValid(t *testing.T) {
 	g := grammar(3, prod(0, a))
 	for _, g := range []api.Grammar{g, {}} {
-		if len(Empty(g)) != 0 || len(First(g)) != 0 || len(Follow(g)) != 0 || len(Lives(g)) != 0 || Of(g, []api.Sym{a}, 1) != 0 || Of(g, nil, 1) != 0 {
+		if len(sets.Empty(g)) != 0 || len(sets.First(g)) != 0 || len(sets.Follow(g)) != 0 || len(sets.Lives(g)) != 0 || sets.Of(g, []api.Sym{a}, 1) != 0 || sets.Of(g, nil, 1) != 0 {
 			t.Error("something is answered")
 		}
 	}
@@ -162,12 +163,12 @@ func firstBy(g api.Grammar, sort, deep int) api.Set {
 
 // holds tells whether sets are such as Follow's sentence asks.
 func holds(g api.Grammar, follow []api.Set) bool {
-	if follow[g.Start]&(1<<End) == 0 {
+	if follow[g.Start]&(1<<sets.End) == 0 {
 		return false
 	}
 	for _, p := range g.Prods {
 		for i, s := range p.Right {
-			if s < 0 && Of(g, p.Right[i+1:], follow[p.Sort])&^follow[-1-s] != 0 {
+			if s < 0 && sets.Of(g, p.Right[i+1:], follow[p.Sort])&^follow[-1-s] != 0 {
 				return false
 			}
 		}
@@ -182,7 +183,7 @@ func TestTheyAreTheLeastSets(t *testing.T) {
 		if !inst.Valid(g) {
 			t.Fatal(g)
 		}
-		empty, lives, first, follow := Empty(g), Lives(g), First(g), Follow(g)
+		empty, lives, first, follow := sets.Empty(g), sets.Lives(g), sets.First(g), sets.Follow(g)
 		for sort := range g.Sorts {
 			if empty[sort] != emptyBy(g, sort, 4) || lives[sort] != livesBy(g, sort, 4) || first[sort] != firstBy(g, sort, 4) {
 				t.Fatal(g, empty, lives, first)
@@ -200,7 +201,7 @@ func TestTheyAreTheLeastSets(t *testing.T) {
 // leastFollow finds, member by member, what is said to follow: by pairs of a sort and a number, from the first ones on.
 func leastFollow(g api.Grammar) []api.Set {
 	type member struct{ sort, n int }
-	there := map[member]bool{{g.Start, End}: true}
+	there := map[member]bool{{g.Start, sets.End}: true}
 	for again := true; again; {
 		again = false
 		add := func(m member) {
@@ -215,8 +216,8 @@ func leastFollow(g api.Grammar) []api.Set {
 					continue
 				}
 				for n := range 64 {
-					in := Of(g, p.Right[i+1:], 0)&(1<<n) != 0
-					through := Of(g, p.Right[i+1:], 1<<40) != Of(g, p.Right[i+1:], 0)
+					in := sets.Of(g, p.Right[i+1:], 0)&(1<<n) != 0
+					through := sets.Of(g, p.Right[i+1:], 1<<40) != sets.Of(g, p.Right[i+1:], 0)
 					if in || through && there[member{p.Sort, n}] {
 						add(member{int(-1 - s), n})
 					}
@@ -235,11 +236,11 @@ func TestTheArgumentIsLeft(t *testing.T) {
 	rnd := rand.New(rand.NewSource(3))
 	g := some(rnd)
 	again := some(rand.New(rand.NewSource(3)))
-	Empty(g)[0] = true
-	First(g)
-	Follow(g)
-	Lives(g)
-	Of(g, g.Prods[0].Right, 0)
+	sets.Empty(g)[0] = true
+	sets.First(g)
+	sets.Follow(g)
+	sets.Lives(g)
+	sets.Of(g, g.Prods[0].Right, 0)
 	if !reflect.DeepEqual(g, again) {
 		t.Error("changed")
 	}

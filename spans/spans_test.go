@@ -1,4 +1,4 @@
-package spans
+package spans_test
 
 import (
 	"math"
@@ -8,6 +8,7 @@ import (
 
 	"syntagm/api"
 	"syntagm/parse"
+	"syntagm/spans"
 )
 
 // grammar is S = open S close of class 3, S = name, S = word of class 5; open has class 7.
@@ -25,7 +26,7 @@ func of(t *testing.T, text string) []api.Span {
 	if err != api.OK {
 		t.Fatal(err)
 	}
-	return Of(p.Grammar(), p.Parse(text), len(text))
+	return spans.Of(p.Grammar(), p.Parse(text), len(text))
 }
 
 func TestExample(t *testing.T) {
@@ -53,8 +54,8 @@ func TestSpansAreTheTerminals(t *testing.T) {
 	p, _ := parse.New(grammar())
 	for _, text := range []string{"", "x", "((x))", "( (12) )", "((", "(x))", "(x !", " ", "(a b)", strings.Repeat("(", 3000) + "x" + strings.Repeat(")", 3000)} {
 		r := p.Parse(text)
-		l := Of(p.Grammar(), r, len(text))
-		if !Cover(l, 0, len(text)) {
+		l := spans.Of(p.Grammar(), r, len(text))
+		if !spans.Cover(l, 0, len(text)) {
 			t.Fatal(text, l)
 		}
 		var leaves []api.Node
@@ -77,9 +78,9 @@ func TestClass(t *testing.T) {
 	g := grammar()
 	g.Terms[1].Class, g.Prods[1].Class = -4, -4
 	g.Terms[3].Class, g.Prods[2].Class = 1, 1
-	if h := grammar(); Class(h, api.Node{Prod: -1}, 2) != 2 {
+	if h := grammar(); spans.Class(h, api.Node{Prod: -1}, 2) != 2 {
 		t.Error("a class of 0 is none")
-	} else if h.Terms[0].Class = 6; Class(h, api.Node{Prod: -1}, 2) != 6 {
+	} else if h.Terms[0].Class = 6; spans.Class(h, api.Node{Prod: -1}, 2) != 6 {
 		t.Error("the first terminal has one")
 	}
 	for _, x := range []struct {
@@ -89,11 +90,11 @@ func TestClass(t *testing.T) {
 		{api.Node{Prod: -1, Term: 2}, 7}, {api.Node{Prod: -1, Term: 0}, 9}, {api.Node{Prod: -1, Term: 1}, 9}, {api.Node{Prod: -1, Term: 3}, 1}, {api.Node{Prod: 2}, 1}, {api.Node{Prod: -1, Term: 5}, 9}, {api.Node{Prod: -1, Term: -1}, 9},
 		{api.Node{Prod: 0, Term: 2}, 3}, {api.Node{Prod: 1}, 9}, {api.Node{Prod: 3}, 9}, {api.Node{Prod: -2, Term: 2}, 9}, {api.Node{Prod: math.MaxInt}, 9}, {api.Node{Prod: math.MinInt}, 9},
 	} {
-		if got := Class(g, x.n, 9); got != x.want {
+		if got := spans.Class(g, x.n, 9); got != x.want {
 			t.Error(x, got)
 		}
 	}
-	if Class(api.Grammar{}, api.Node{Prod: -1}, -3) != -3 {
+	if spans.Class(api.Grammar{}, api.Node{Prod: -1}, -3) != -3 {
 		t.Error("of no terminal above")
 	}
 }
@@ -102,14 +103,14 @@ func TestAnyResult(t *testing.T) {
 	whole := api.Node{Prod: -1, Term: 77, From: 5, To: 2, Kids: []api.Node{{Prod: -1}}}
 	r := parse.Result{OK: true, Trees: []api.Node{{Prod: -8, Kids: []api.Node{whole, {Prod: 0, Kids: []api.Node{{Prod: -1, Term: 1, From: 1, To: 3}}}}}, {Prod: -1, Term: 2}}, At: 3}
 	want := []api.Span{{From: 5, To: 2}, {From: 1, To: 3, Class: 3}, {Class: 7}}
-	if got := Of(grammar(), r, 9); !slices.Equal(got, want) {
+	if got := spans.Of(grammar(), r, 9); !slices.Equal(got, want) {
 		t.Error(got)
 	}
 	r.OK = false
-	if got := Of(grammar(), r, -9); !slices.Equal(got, append(want, api.Span{From: 3, To: -9, Class: -1})) {
+	if got := spans.Of(grammar(), r, -9); !slices.Equal(got, append(want, api.Span{From: 3, To: -9, Class: -1})) {
 		t.Error(got)
 	}
-	if got := Of(api.Grammar{}, parse.Result{}, 0); !slices.Equal(got, []api.Span{{Class: -1}}) {
+	if got := spans.Of(api.Grammar{}, parse.Result{}, 0); !slices.Equal(got, []api.Span{{Class: -1}}) {
 		t.Error(got)
 	}
 }
@@ -131,7 +132,7 @@ func TestCover(t *testing.T) {
 		{[]api.Span{span(9, 9)}, 0, 9, true},
 		{[]api.Span{span(10, 10)}, 0, 9, false},
 	} {
-		if got := Cover(x.l, x.from, x.to); got != x.want {
+		if got := spans.Cover(x.l, x.from, x.to); got != x.want {
 			t.Error(i, got)
 		}
 	}
@@ -140,11 +141,11 @@ func TestCover(t *testing.T) {
 func TestAt(t *testing.T) {
 	l := []api.Span{{From: 1, To: 3}, {From: 3, To: 3}, {From: 2, To: 5}, {From: 9, To: 7}}
 	for at, want := range map[int]int{0: -1, 1: 0, 2: 0, 3: 2, 4: 2, 5: -1, 8: -1, -1: -1, math.MaxInt: -1} {
-		if got := At(l, at); got != want {
+		if got := spans.At(l, at); got != want {
 			t.Error(at, got)
 		}
 	}
-	if At(nil, 0) != -1 {
+	if spans.At(nil, 0) != -1 {
 		t.Error("of none")
 	}
 }

@@ -1,4 +1,4 @@
-package table
+package table_test
 
 import (
 	"math"
@@ -14,6 +14,7 @@ import (
 	"syntagm/look"
 	"syntagm/sets"
 	"syntagm/states"
+	"syntagm/table"
 )
 
 const a, b, c, A, B, C = api.Sym(0), api.Sym(1), api.Sym(2), api.Sym(-1), api.Sym(-2), api.Sym(-3)
@@ -44,17 +45,17 @@ func some(rnd *rand.Rand) api.Grammar {
 	return grammar(rnd.Intn(3), l...)
 }
 
-func built(t *testing.T, g api.Grammar) Table {
+func built(t *testing.T, g api.Grammar) table.Table {
 	t.Helper()
-	table, err := Build(g)
+	made, err := table.Build(g)
 	if err != api.OK {
 		t.Fatal(err)
 	}
-	return table
+	return made
 }
 
 func TestKindsAreCounted(t *testing.T) {
-	if Wrong != 0 || Shift != 1 || Reduce != 2 || Accept != 3 {
+	if table.Wrong != 0 || table.Shift != 1 || table.Reduce != 2 || table.Accept != 3 {
 		t.Error("kinds")
 	}
 }
@@ -63,8 +64,8 @@ func TestBuild(t *testing.T) {
 	// A = a A, A = nothing: states 0, that behind a, behind A, and behind a A.
 	g := grammar(0, prod(0, a, A), prod(0))
 	g.Terms, g.Sorts = g.Terms[:1], g.Sorts[:1]
-	want := Table{
-		Deeds: [][]Deed{{{Shift, 1}, {Reduce, 1}}, {{Shift, 1}, {Reduce, 1}}, {{}, {Accept, 0}}, {{}, {Reduce, 0}}},
+	want := table.Table{
+		Deeds: [][]table.Deed{{{table.Shift, 1}, {table.Reduce, 1}}, {{table.Shift, 1}, {table.Reduce, 1}}, {{}, {table.Accept, 0}}, {{}, {table.Reduce, 0}}},
 		Next:  [][]int{{2}, {3}, {-1}, {-1}},
 		May:   []api.Set{bits.Of(0, sets.End), bits.Of(0, sets.End), bits.Of(sets.End), bits.Of(sets.End)},
 	}
@@ -72,7 +73,7 @@ func TestBuild(t *testing.T) {
 		t.Error(got)
 	}
 	for n := range 20 {
-		if ok, at := Run(g, want, make([]int, n)); !ok || at != n {
+		if ok, at := table.Run(g, want, make([]int, n)); !ok || at != n {
 			t.Error(n, ok, at)
 		}
 	}
@@ -81,49 +82,49 @@ func TestBuild(t *testing.T) {
 func TestAllThatCanBeDone(t *testing.T) {
 	// A = A, A = a, A = a B, B = nothing: behind A one may accept, or go on; behind a one may reduce by two.
 	g := grammar(0, prod(0, A), prod(0, a), prod(0, a, B), prod(1), prod(1, a))
-	all, err := All(g)
+	all, err := table.All(g)
 	if err != api.OK {
 		t.Fatal(err)
 	}
 	auto, _ := states.Build(g)
 	behindA, behinda := states.Go(g, auto, 0, A), states.Go(g, auto, 0, a)
-	if l := all[behindA][3]; !slices.Equal(l, []Deed{{Accept, 0}, {Reduce, 0}}) {
+	if l := all[behindA][3]; !slices.Equal(l, []table.Deed{{table.Accept, 0}, {table.Reduce, 0}}) {
 		t.Error(l)
 	}
-	if l := all[behinda][3]; !slices.Equal(l, []Deed{{Reduce, 1}, {Reduce, 3}}) {
+	if l := all[behinda][3]; !slices.Equal(l, []table.Deed{{table.Reduce, 1}, {table.Reduce, 3}}) {
 		t.Error(l)
 	}
-	if l := all[behinda][0]; len(l) != 1 || l[0].Kind != Shift {
+	if l := all[behinda][0]; len(l) != 1 || l[0].Kind != table.Shift {
 		t.Error(l)
 	}
-	if got := Clashes(g); !slices.Equal(got, [][2]int{{behinda, 3}, {behindA, 3}}) && !slices.Equal(got, [][2]int{{behindA, 3}, {behinda, 3}}) {
+	if got := table.Clashes(g); !slices.Equal(got, [][2]int{{behinda, 3}, {behindA, 3}}) && !slices.Equal(got, [][2]int{{behindA, 3}, {behinda, 3}}) {
 		t.Error(got)
 	}
-	if table, err := Build(g); err != api.ErrLR || !reflect.DeepEqual(table, Table{}) {
-		t.Error(table, err)
+	if made, err := table.Build(g); err != api.ErrLR || !reflect.DeepEqual(made, table.Table{}) {
+		t.Error(made, err)
 	}
 	// A = A A, A = a: behind A A one may shift, or reduce.
 	g = grammar(0, prod(0, A, A), prod(0, a))
-	all, _ = All(g)
+	all, _ = table.All(g)
 	found := false
 	for _, columns := range all {
 		l := columns[0]
-		found = found || len(l) == 2 && l[0].Kind == Shift && l[1] == Deed{Reduce, 0}
+		found = found || len(l) == 2 && l[0].Kind == table.Shift && l[1] == table.Deed{table.Reduce, 0}
 	}
-	if !found || len(Clashes(g)) == 0 {
+	if !found || len(table.Clashes(g)) == 0 {
 		t.Error(all)
 	}
 }
 
 func TestErrors(t *testing.T) {
 	bad := grammar(3, prod(0, a))
-	if all, err := All(bad); err != api.ErrArg || len(all) != 0 {
+	if all, err := table.All(bad); err != api.ErrArg || len(all) != 0 {
 		t.Error(all, err)
 	}
-	if table, err := Build(bad); err != api.ErrArg || !reflect.DeepEqual(table, Table{}) {
-		t.Error(table, err)
+	if made, err := table.Build(bad); err != api.ErrArg || !reflect.DeepEqual(made, table.Table{}) {
+		t.Error(made, err)
 	}
-	if len(Clashes(bad)) != 0 {
+	if len(table.Clashes(bad)) != 0 {
 		t.Error("clashes")
 	}
 	many := grammar(0, prod(0, a, A), prod(0, b, A), prod(0, a, B))
@@ -132,13 +133,13 @@ func TestErrors(t *testing.T) {
 		to := api.Sym(-2 - i)
 		many.Prods = append(many.Prods, api.Prod{Label: strconv.Itoa(200 + 2*i), Sort: i, Right: []api.Sym{a, to}}, api.Prod{Label: strconv.Itoa(201 + 2*i), Sort: i, Right: []api.Sym{b, to}})
 	}
-	if _, err := Build(many); err != api.ErrMany {
+	if _, err := table.Build(many); err != api.ErrMany {
 		t.Error(err)
 	}
-	if _, err := All(many); err != api.ErrMany {
+	if _, err := table.All(many); err != api.ErrMany {
 		t.Error(err)
 	}
-	if len(Clashes(many)) != 0 {
+	if len(table.Clashes(many)) != 0 {
 		t.Error("clashes")
 	}
 }
@@ -162,8 +163,8 @@ func TestItAcceptsJustWhatIsDerived(t *testing.T) {
 	tables := 0
 	for range 1200 {
 		g := some(rnd)
-		table, err := Build(g)
-		if (err == api.OK) != (len(Clashes(g)) == 0) {
+		made, err := table.Build(g)
+		if (err == api.OK) != (len(table.Clashes(g)) == 0) {
 			t.Fatal(g, err)
 		}
 		if err != api.OK {
@@ -172,7 +173,7 @@ func TestItAcceptsJustWhatIsDerived(t *testing.T) {
 		tables++
 		live := useful(g)
 		for _, row := range all {
-			ok, at := Run(g, table, row)
+			ok, at := table.Run(g, made, row)
 			if ways := derive.Ways(g, row); ok != (ways == 1) || !ok && ways != 0 || ok && at != len(row) {
 				t.Fatal(g, row, ok, at, ways)
 			}
@@ -191,7 +192,7 @@ func TestTheTableIsWhatCanBeDone(t *testing.T) {
 	rnd := rand.New(rand.NewSource(2))
 	for range 1000 {
 		g := some(rnd)
-		all, _ := All(g)
+		all, _ := table.All(g)
 		rows, _ := look.All(g)
 		auto, _ := states.Build(g)
 		if len(all) != len(rows) {
@@ -199,11 +200,11 @@ func TestTheTableIsWhatCanBeDone(t *testing.T) {
 		}
 		for state, r := range rows {
 			for column := range 4 {
-				var want []Deed
+				var want []table.Deed
 				end := column
 				if column < 3 {
 					if to := states.Go(g, auto, state, api.Sym(column)); to >= 0 {
-						want = append(want, Deed{Shift, to})
+						want = append(want, table.Deed{table.Shift, to})
 					}
 				} else {
 					end = sets.End
@@ -213,9 +214,9 @@ func TestTheTableIsWhatCanBeDone(t *testing.T) {
 						continue
 					}
 					if x.Prod < 0 {
-						want = append(want, Deed{Accept, 0})
+						want = append(want, table.Deed{table.Accept, 0})
 					} else {
-						want = append(want, Deed{Reduce, x.Prod})
+						want = append(want, table.Deed{table.Reduce, x.Prod})
 					}
 				}
 				if !slices.Equal(all[state][column], want) {
@@ -223,25 +224,25 @@ func TestTheTableIsWhatCanBeDone(t *testing.T) {
 				}
 			}
 		}
-		table, err := Build(g)
+		made, err := table.Build(g)
 		if err != api.OK {
 			continue
 		}
-		for state, row := range table.Deeds {
+		for state, row := range made.Deeds {
 			var may api.Set
 			for column, d := range row {
-				if l := all[state][column]; len(l) == 1 && l[0] != d || len(l) == 0 && d != (Deed{}) {
+				if l := all[state][column]; len(l) == 1 && l[0] != d || len(l) == 0 && d != (table.Deed{}) {
 					t.Fatal(g, state, column)
 				}
-				if d.Kind != Wrong {
+				if d.Kind != table.Wrong {
 					may = bits.With(may, []int{0, 1, 2, sets.End}[column])
 				}
 			}
-			if may != table.May[state] {
+			if may != made.May[state] {
 				t.Fatal(g, state)
 			}
 			for sort := range g.Sorts {
-				if table.Next[state][sort] != states.Go(g, auto, state, api.Sym(-1-sort)) {
+				if made.Next[state][sort] != states.Go(g, auto, state, api.Sym(-1-sort)) {
 					t.Fatal(g, state, sort)
 				}
 			}
@@ -251,7 +252,7 @@ func TestTheTableIsWhatCanBeDone(t *testing.T) {
 
 func TestRun(t *testing.T) {
 	g := grammar(0, prod(0, a, A, b), prod(0))
-	table := built(t, g)
+	made := built(t, g)
 	for _, x := range []struct {
 		row []int
 		ok  bool
@@ -260,42 +261,42 @@ func TestRun(t *testing.T) {
 		{nil, true, 0}, {[]int{0, 1}, true, 2}, {[]int{0, 0, 1, 1}, true, 4}, {[]int{0, 0, 1}, false, 3}, {[]int{0, 1, 1}, false, 2}, {[]int{1}, false, 0},
 		{[]int{0, 3}, false, 1}, {[]int{3}, false, 0}, {[]int{0, 1, 3}, false, 2}, {[]int{-1}, false, 0}, {[]int{0, math.MinInt}, false, 1}, {[]int{math.MaxInt}, false, 0}, {[]int{63}, false, 0},
 	} {
-		if ok, at := Run(g, table, x.row); ok != x.ok || at != x.at {
+		if ok, at := table.Run(g, made, x.row); ok != x.ok || at != x.at {
 			t.Error(x, ok, at)
 		}
 	}
-	for i, spoil := range []func(*Table){
-		func(t *Table) { *t = Table{} },
-		func(t *Table) { t.Deeds[0][0] = Deed{} },
-		func(t *Table) { t.Deeds[0] = t.Deeds[0][:1] },
-		func(t *Table) { t.Next[0][0] = -1 },
-		func(t *Table) { t.May[0] = 0 },
-		func(t *Table) { t.May = append(t.May, 0) },
+	for i, spoil := range []func(*table.Table){
+		func(t *table.Table) { *t = table.Table{} },
+		func(t *table.Table) { t.Deeds[0][0] = table.Deed{} },
+		func(t *table.Table) { t.Deeds[0] = t.Deeds[0][:1] },
+		func(t *table.Table) { t.Next[0][0] = -1 },
+		func(t *table.Table) { t.May[0] = 0 },
+		func(t *table.Table) { t.May = append(t.May, 0) },
 	} {
-		table := built(t, g)
-		spoil(&table)
-		if ok, at := Run(g, table, []int{0, 1}); ok || at != 0 {
+		made := built(t, g)
+		spoil(&made)
+		if ok, at := table.Run(g, made, []int{0, 1}); ok || at != 0 {
 			t.Error(i, ok, at)
 		}
 	}
-	if ok, at := Run(grammar(0, prod(0, a)), table, []int{0}); ok || at != 0 {
+	if ok, at := table.Run(grammar(0, prod(0, a)), made, []int{0}); ok || at != 0 {
 		t.Error("the table of another grammar")
 	}
-	if ok, at := Run(api.Grammar{}, Table{}, nil); ok || at != 0 {
+	if ok, at := table.Run(api.Grammar{}, table.Table{}, nil); ok || at != 0 {
 		t.Error("of no grammar")
 	}
 }
 
 func TestNothingIsShared(t *testing.T) {
 	g := grammar(0, prod(0, a, A, b), prod(0))
-	table := built(t, g)
+	made := built(t, g)
 	again := built(t, g)
-	for state := range table.Deeds {
-		table.Deeds[state][0] = Deed{9, 9}
-		table.Next[state][0] = 9
-		table.May[state] = 9
+	for state := range made.Deeds {
+		made.Deeds[state][0] = table.Deed{9, 9}
+		made.Next[state][0] = 9
+		made.May[state] = 9
 	}
-	if ok, at := Run(g, again, []int{0, 1}); !ok || at != 2 {
+	if ok, at := table.Run(g, again, []int{0, 1}); !ok || at != 2 {
 		t.Error("shared")
 	}
 }
@@ -303,13 +304,13 @@ func TestNothingIsShared(t *testing.T) {
 func TestAnUsualGrammar(t *testing.T) {
 	// A = A a B, A = B; B = b C, B = C; C = c: two operations, the second one ahead of all.
 	g := grammar(0, prod(0, A, a, B), prod(0, B), prod(1, b, C), prod(1, C), prod(2, c))
-	table := built(t, g)
-	if ok, at := Run(g, table, []int{2, 0, 1, 2, 0, 2}); !ok || at != 6 {
+	made := built(t, g)
+	if ok, at := table.Run(g, made, []int{2, 0, 1, 2, 0, 2}); !ok || at != 6 {
 		t.Error(ok, at)
 	}
 	// It needs what is ahead of states alone, not of sorts: A = B b B, A = C; B = c C, B = a; C = B.
 	g = grammar(0, prod(0, B, b, C), prod(0, C), prod(1, c, C), prod(1, a), prod(2, B))
-	if ok, _ := Run(g, built(t, g), []int{2, 0, 1, 2, 0}); !ok {
+	if ok, _ := table.Run(g, built(t, g), []int{2, 0, 1, 2, 0}); !ok {
 		t.Error("it has a table")
 	}
 }
